@@ -1,0 +1,1 @@
+"""pressedwords: sayings about texts, solved by pressing pairs and blocks of letters."""

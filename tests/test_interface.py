@@ -1,0 +1,57 @@
+"""The names, arguments and homes of what the interface lists."""
+
+import importlib
+import inspect
+import unittest
+
+FUNCTIONS = {
+    "books": "is_whole(thing) is_sequence(thing) letter_places(book) unknown_places(book) size_bound(book) "
+             "neighbours(book)",
+    "tidying": "tidy(book) canon(book)",
+    "expressions": "alphabet_of(letters) check_expression(thing,letters) matches(expression,text) "
+                   "expression_text(expression) read_expression(text,letters)",
+    "watchers": "watcher_of(expressions,letters) text_apart(expression,other,letters)",
+    "deeds": "deeds_of(watcher) deed_after(first,then) power_of(deed) deed_times(deed,many)",
+}
+CLASSES = {
+    "books": {"Book": ("(rows,deeds,ends,states=1)", ""), "Clash": ("(why,at)", "")},
+    "tidying": {"Canon": ("(book,letters,unknowns)", "")},
+    "watchers": {"Watcher": ("(letters,moves,ends)", "state_after(text,state=0) takes(number,text) "
+                             "goals_where(wanted) reach_text(state) apart_text(state,other)")},
+    "deeds": {"Deeds": ("(watcher,table)", "letter_deed(letter) text_deed(text) text_of(deed) reached_from(start) "
+                        "path_text(start,goals) apart_in(deed,other)")},
+}
+
+
+def arguments(function):
+    return str(inspect.signature(function)).replace(" ", "")
+
+
+class InterfaceTest(unittest.TestCase):
+    def test_functions_are_defined_in_their_files(self):
+        for name, listed in FUNCTIONS.items():
+            module = importlib.import_module("pressedwords." + name)
+            for told in listed.split():
+                function = getattr(module, told.split("(")[0])
+                self.assertEqual(function.__module__, module.__name__, told)
+                self.assertEqual(function.__name__ + arguments(function), told)
+
+    def test_classes_define_their_methods_themselves(self):
+        for name, listed in CLASSES.items():
+            module = importlib.import_module("pressedwords." + name)
+            for word, (told, methods) in listed.items():
+                kind = getattr(module, word)
+                self.assertEqual((kind.__module__, kind.__bases__), (module.__name__, (object,)))
+                self.assertEqual(arguments(kind), told)
+                self.assertIn("__eq__", vars(kind))
+                for method in methods.split():
+                    function = vars(kind)[method.split("(")[0]]
+                    self.assertEqual(function.__name__ + arguments(function).replace("(self,", "("), method)
+
+    def test_key_is_a_property(self):
+        books = importlib.import_module("pressedwords.books")
+        self.assertIsInstance(vars(books.Book)["key"], property)
+
+
+if __name__ == "__main__":
+    unittest.main()
