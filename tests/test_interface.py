@@ -12,6 +12,13 @@ FUNCTIONS = {
                    "expression_text(expression) read_expression(text,letters)",
     "watchers": "watcher_of(expressions,letters) text_apart(expression,other,letters)",
     "deeds": "deeds_of(watcher) deed_after(first,then) power_of(deed) deed_times(deed,many)",
+    "sayings": "check_letters(letters) check_side(thing,letters) check_saying(thing,letters) is_item(thing,letters) "
+               "names_of(saying) exchanged(saying,table) side_text(side,texts) saying_holds(saying,texts)",
+    "sayingtext": "saying_text(saying) sayings_text(sayings) read_saying(text,letters) read_sayings(text,letters)",
+    "booktext": "read_whole(word) book_text(book) read_book(text)",
+    "settling": "settle(book,gone,lot) start_of(book,lot)",
+    "guesses": "opened_side(side,parts)",
+    "first": "left_ends(ends,front,back,deeds) first_guesses(book,at,lot)",
 }
 CLASSES = {
     "books": {"Book": ("(rows,deeds,ends,states=1)", ""), "Clash": ("(why,at)", "")},
@@ -20,6 +27,8 @@ CLASSES = {
                              "goals_where(wanted) reach_text(state) apart_text(state,other)")},
     "deeds": {"Deeds": ("(watcher,table)", "letter_deed(letter) text_deed(text) text_of(deed) reached_from(start) "
                         "path_text(start,goals) apart_in(deed,other)")},
+    "settling": {"Settled": ("(told,letters,unknowns,spares)", "")},
+    "guesses": {"Guess": ("(parts,news,told,letters,unknowns,spares,equations)", "")},
 }
 
 

@@ -37,7 +37,8 @@ def functions(tree):
 
 def bound_names(function):
     names = {node.arg for node in ast.walk(function) if isinstance(node, ast.arg)}
-    names |= {node.id for node in ast.walk(function) if isinstance(node, ast.Name) and not isinstance(node.ctx, ast.Load)}
+    used = [node for node in ast.walk(function) if isinstance(node, ast.Name)]
+    names |= {node.id for node in used if not isinstance(node.ctx, ast.Load)}
     return names | {node.name for node in ast.walk(function) if isinstance(node, ast.ExceptHandler) and node.name}
 
 

@@ -1,0 +1,37 @@
+"""Guesses: what each unknown of a book gives up [5.3, 5.4, 5.7]."""
+
+ONCE = (1, ())
+
+
+class Guess:
+    """What each unknown gives up, the new letters, and what becomes of the book."""
+
+    def __init__(self, parts, news, told, letters, unknowns, spares, equations):
+        self.parts = parts
+        self.news = news
+        self.told = told
+        self.letters = letters
+        self.unknowns = unknowns
+        self.spares = spares
+        self.equations = equations
+
+    def __eq__(self, other):
+        return (isinstance(other, Guess) and self.parts == other.parts and self.news == other.news
+                and self.told == other.told and self.letters == other.letters
+                and self.unknowns == other.unknowns and self.spares == other.spares
+                and self.equations == other.equations)
+
+
+def opened_side(side, parts):
+    """The side with each unknown's parts put in for it, each sign beside its form."""
+    opened = []
+    for sign in side:
+        if sign >= 0:
+            opened.append((sign, ONCE))
+        else:
+            front, stays, back = parts[-1 - sign]
+            opened.extend(list(front))
+            if stays:
+                opened.append((sign, ONCE))
+            opened.extend(list(back))
+    return tuple(opened)

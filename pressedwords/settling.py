@@ -1,0 +1,38 @@
+"""Settled books: tidy, canonical, and with a text for every unknown's ends [5.1, 5.2]."""
+
+from pressedwords.books import Clash
+from pressedwords.tidying import canon, tidy
+
+
+class Settled:
+    """What settle tells of a book: told is the canonical book or a Clash."""
+
+    def __init__(self, told, letters, unknowns, spares):
+        self.told = told
+        self.letters = letters
+        self.unknowns = unknowns
+        self.spares = spares
+
+    def __eq__(self, other):
+        return (isinstance(other, Settled) and self.told == other.told and self.letters == other.letters
+                and self.unknowns == other.unknowns and self.spares == other.spares)
+
+
+def settle(book, gone, lot):
+    """The settled book, of whose unknowns those in gone are no longer looked for."""
+    tidied = tidy(book)
+    if isinstance(tidied, Clash):
+        return Settled(tidied, (), (), ())
+    wanted = [number for number in range(len(book.ends)) if number not in gone]
+    for number in wanted:
+        start, goals = book.ends[number]
+        if lot.path_text(start, goals) is None:
+            return Settled(Clash("state", number), (), (), ())
+    told = canon(tidied)
+    spares = tuple([(number, book.ends[number]) for number in wanted if number not in told.unknowns])
+    return Settled(told.book, told.letters, told.unknowns, spares)
+
+
+def start_of(book, lot):
+    """The settled book in which all unknowns are looked for."""
+    return settle(book, (), lot)
