@@ -1,8 +1,6 @@
 """The first step: what both sides of a row begin with [5.5, 5.6, 5.8]."""
 
-from pressedwords.books import Book
-from pressedwords.guesses import ONCE, Guess, opened_side
-from pressedwords.settling import settle
+from pressedwords.guesses import ONCE, opened_side, told_guess
 
 WHOLE = ((), True, ())
 
@@ -65,9 +63,11 @@ def letter_guesses(book, unknowns, letter, news, lot):
 
 def unpressed_guess(book, parts, news, deeds, lot):
     """The guess with these parts, if nothing is pressed; deeds are those of the old and the new letters."""
-    rows = [[[sign for sign, _ in opened_side(side, parts)] for side in row] for row in book.rows]
-    ends = [left_ends(one, front, back, deeds) if stays else one
-            for one, (front, stays, back) in zip(book.ends, parts)]
-    gone = [number for number, part in enumerate(parts) if not part[1]]
-    settled = settle(Book(rows, deeds, ends, book.states), gone, lot)
-    return Guess(parts, news, settled.told, settled.letters, settled.unknowns, settled.spares, ())
+    rows = [tuple([tuple([sign for sign, _ in opened_side(side, parts)]) for side in row]) for row in book.rows]
+    return told_guess(parts, news, rows, deeds, parted_ends(book, parts, deeds), (), lot)
+
+
+def parted_ends(book, parts, deeds):
+    """The ends that the parts leave the unknowns; one that does not stay keeps its own."""
+    return [left_ends(ends, front, back, deeds) if stays else ends
+            for ends, (front, stays, back) in zip(book.ends, parts)]

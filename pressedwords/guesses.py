@@ -1,5 +1,7 @@
 """Guesses: what each unknown of a book gives up [5.3, 5.4, 5.7]."""
 
+from pressedwords.settling import settled_rows
+
 ONCE = (1, ())
 
 
@@ -35,3 +37,26 @@ def opened_side(side, parts):
                 opened.append((sign, ONCE))
             opened.extend(list(back))
     return tuple(opened)
+
+
+def told_guess(parts, news, rows, deeds, ends, equations, lot):
+    """The guess whose new book has these rows, deeds and ends [5.5]."""
+    gone = [number for number, part in enumerate(parts) if not part[1]]
+    settled = settled_rows(rows, deeds, ends, lot.states, gone, lot)
+    return Guess(parts, news, settled.told, settled.letters, settled.unknowns, settled.spares, equations)
+
+
+def combined(rows):
+    """All tuples of one thing of each row, the things of the last row changing fastest."""
+    if not all([len(row) > 0 for row in rows]):
+        return
+    places = [0 for _ in rows]
+    while True:
+        yield tuple([row[place] for row, place in zip(rows, places)])
+        at = len(rows) - 1
+        while at >= 0 and places[at] == len(rows[at]) - 1:
+            places[at] = 0
+            at -= 1
+        if at < 0:
+            return
+        places[at] += 1

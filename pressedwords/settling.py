@@ -1,7 +1,7 @@
 """Settled books: tidy, canonical, and with a text for every unknown's ends [5.1, 5.2]."""
 
 from pressedwords.books import Clash
-from pressedwords.tidying import canon, tidy
+from pressedwords.tidying import canon_of, tidy_rows
 
 
 class Settled:
@@ -20,16 +20,21 @@ class Settled:
 
 def settle(book, gone, lot):
     """The settled book, of whose unknowns those in gone are no longer looked for."""
-    tidied = tidy(book)
+    return settled_rows(book.rows, book.deeds, book.ends, book.states, gone, lot)
+
+
+def settled_rows(rows, deeds, ends, states, gone, lot):
+    """What settle tells of the book with these rows; a guess has it without making the book first."""
+    tidied = tidy_rows(rows)
     if isinstance(tidied, Clash):
         return Settled(tidied, (), (), ())
-    wanted = [number for number in range(len(book.ends)) if number not in gone]
+    wanted = [number for number in range(len(ends)) if number not in gone]
     for number in wanted:
-        start, goals = book.ends[number]
+        start, goals = ends[number]
         if lot.path_text(start, goals) is None:
             return Settled(Clash("state", number), (), (), ())
-    told = canon(tidied)
-    spares = tuple([(number, book.ends[number]) for number in wanted if number not in told.unknowns])
+    told = canon_of(tidied, deeds, ends, states)
+    spares = tuple([(number, ends[number]) for number in wanted if number not in told.unknowns])
     return Settled(told.book, told.letters, told.unknowns, spares)
 
 

@@ -18,15 +18,21 @@ class Canon:
 
 def tidy(book):
     """The book without equal signs at the ends of its rows, or the first Clash that comes to light."""
-    rows = []
-    for at, row in enumerate(book.rows):
+    rows = tidy_rows(book.rows)
+    return rows if isinstance(rows, Clash) else Book(rows, book.deeds, book.ends, book.states)
+
+
+def tidy_rows(rows):
+    """The rows, couples of tuples, without equal signs at their ends, or the first Clash that comes to light."""
+    kept = []
+    for at, row in enumerate(rows):
         left, right = stripped(row)
         why = clash_word(left, right)
         if why is not None:
             return Clash(why, at)
         if left:
-            rows.append((left, right))
-    return Book(rows, book.deeds, book.ends, book.states)
+            kept.append((left, right))
+    return kept
 
 
 def stripped(row):
@@ -57,7 +63,12 @@ def clash_word(left, right):
 
 def canon(book):
     """The canonical form of a tidy book."""
-    rows = unlike_rows(book.rows)
+    return canon_of(book.rows, book.deeds, book.ends, book.states)
+
+
+def canon_of(tidied, old_deeds, old_ends, states):
+    """The canonical form of tidy rows, whose signs have these deeds and ends."""
+    rows = unlike_rows(tidied)
     letters = first_places([sign for row in rows for side in row for sign in side if sign >= 0])
     unknowns = first_places([-1 - sign for row in rows for side in row for sign in side if sign < 0])
     signs = {}
@@ -66,9 +77,9 @@ def canon(book):
     for new, old in enumerate(unknowns):
         signs[-1 - old] = -1 - new
     renamed = [[[signs[sign] for sign in side] for side in row] for row in rows]
-    deeds = [book.deeds[old] for old in letters]
-    ends = [plain_ends(book.ends[old], book.states) for old in unknowns]
-    return Canon(Book(renamed, deeds, ends, book.states), letters, unknowns)
+    deeds = [old_deeds[old] for old in letters]
+    ends = [plain_ends(old_ends[old], states) for old in unknowns]
+    return Canon(Book(renamed, deeds, ends, states), letters, unknowns)
 
 
 def unlike_rows(rows):

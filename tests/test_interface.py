@@ -19,6 +19,14 @@ FUNCTIONS = {
     "settling": "settle(book,gone,lot) start_of(book,lot)",
     "guesses": "opened_side(side,parts)",
     "first": "left_ends(ends,front,back,deeds) first_guesses(book,at,lot)",
+    "pairs": "pair_guesses(book,firsts,seconds,lot)",
+    "parting": "parting(book) best_neighbours(book)",
+    "steps": "told_step(book) let_step(book,step)",
+    "forms": "form_value(form,numbers) form_sum(forms,many) form_gap(one,other) length_choices(deed) class_rows(forms)",
+    "blocks": "shapes_of(book,unknown,letters,lot) block_guesses(book,letters,lot)",
+    "carries": "check_system(system) turns_from(system,carry_row) carry_bounds(system) whole(system) "
+               "judge_carries(system,carries) answer_fault(system,numbers)",
+    "stepping": "guesses_of(book,step,lot) outcome_of(guess)",
 }
 CLASSES = {
     "books": {"Book": ("(rows,deeds,ends,states=1)", ""), "Clash": ("(why,at)", "")},
@@ -28,6 +36,8 @@ CLASSES = {
     "deeds": {"Deeds": ("(watcher,table)", "letter_deed(letter) text_deed(text) text_of(deed) reached_from(start) "
                         "path_text(start,goals) apart_in(deed,other)")},
     "settling": {"Settled": ("(told,letters,unknowns,spares)", "")},
+    "blocks": {"Shape": ("(front,stays,back,ends)", "")},
+    "carries": {"Answer": ("(numbers)", ""), "Carries": ("(rows)", "")},
     "guesses": {"Guess": ("(parts,news,told,letters,unknowns,spares,equations)", "")},
 }
 

@@ -14,6 +14,8 @@ METHODS = set("""append clear copy count endswith extend find get index insert i
 BARRED = set("""register mro elements open input law version_info with_traceback add_note attrgetter breakpoint compile
     delattr dir eval exec exit gc globals help id importlib license locals os quit type vars sys typing enum Flag
     Generic Protocol ABC namedtuple format""".split())
+BARRED_WORDS = set("""type typing typing_extensions enum Enum IntEnum StrEnum Flag IntFlag Generic Protocol ABC ABCMeta
+    namedtuple NamedTuple TypedDict TYPE_CHECKING abstractmethod""".split())
 SPECIAL = set("__init__ __eq__ __repr__ __str__ __len__ __iter__ __contains__".split())
 STATEMENTS = (ast.Assign, ast.AugAssign, ast.If, ast.While, ast.For, ast.Return, ast.Break, ast.Continue, ast.Pass,
               ast.Raise, ast.Try, ast.Expr, ast.FunctionDef, ast.Assert, ast.Delete)
@@ -136,7 +138,7 @@ class LanguageTest(unittest.TestCase):
                         self.assertNotIn("%", node.value)
                         self.assertFalse(node.value.endswith(("._", ".__")), path.name)
                         if node not in told:
-                            self.assertFalse(set(node.value.split()) & BARRED, path.name)
+                            self.assertFalse(set(node.value.split()) & BARRED_WORDS, path.name)
                 if isinstance(node, ast.BinOp):
                     self.assertNotIsInstance(node.op, (ast.Div, ast.MatMult), path.name)
 
@@ -149,6 +151,31 @@ class LanguageTest(unittest.TestCase):
             for node in ast.walk(tree):
                 if isinstance(node, ast.Call) and isinstance(node.func, ast.Name) and node.func.id == "set":
                     self.assertIn(node, inside, path.name)
+
+    def test_generators_are_iterated_at_once(self):
+        made = [node.name for _, node in self.nodes(ast.FunctionDef)
+                if any(isinstance(part, (ast.Yield, ast.YieldFrom)) for part in ast.walk(node))]
+        every = [node.name for _, node in self.nodes(ast.FunctionDef)]
+        for name in made:
+            self.assertEqual(every.count(name), 1, name)
+        for path, tree in self.trees.items():
+            fitting = []
+            for node in ast.walk(tree):
+                if isinstance(node, (ast.For, ast.comprehension)):
+                    fitting.append(node.iter)
+                elif isinstance(node, ast.YieldFrom):
+                    fitting.append(node.value)
+                elif isinstance(node, ast.Call) and getattr(node.func, "id", None) in ("list", "tuple"):
+                    fitting.extend(node.args)
+            names = [node.func for node in fitting if isinstance(node, ast.Call)]
+            for node in ast.walk(tree):
+                if isinstance(node, ast.Name) and node.id in made:
+                    self.assertIn(node, names, f"{path.name}:{node.lineno}")
+            for node in fitting:
+                if isinstance(node, ast.Call) and isinstance(node.func, ast.Name) and node.func.id in made:
+                    for part in node.args:
+                        place = f"{path.name}:{node.lineno}"
+                        self.assertIsInstance(part, (ast.Name, ast.Attribute, ast.Constant), place)
 
     def test_comparisons_by_is(self):
         for place, node in self.nodes(ast.Compare):

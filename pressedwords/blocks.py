@@ -1,0 +1,196 @@
+"""The block step: every block of a block letter becomes one letter [7.4 to 7.8]."""
+
+from pressedwords.deeds import deed_times
+from pressedwords.forms import form_gap, form_sum, least_class_row, length_choices, next_class_row
+from pressedwords.guesses import ONCE, combined, opened_side, told_guess
+
+
+class Shape:
+    """What becomes of one unknown: its blocks in front and behind, and the ends of the rest, if there is one."""
+
+    def __init__(self, front, stays, back, ends):
+        self.front = front
+        self.stays = stays
+        self.back = back
+        self.ends = ends
+
+    def __eq__(self, other):
+        return (isinstance(other, Shape) and self.front == other.front and self.stays == other.stays
+                and self.back == other.back and self.ends == other.ends)
+
+
+def shapes_of(book, unknown, letters, lot):
+    """The shapes of one unknown for these block letters."""
+    fronts, backs = edge_letters(book, -1 - unknown, letters)
+    choices = [length_choices(deed) for deed in book.deeds]
+    shapes = []
+    for front, stays, back in outlines(fronts, backs):
+        rows = [choices[letter] for letter in front + back]
+        for lengths in combined(rows):
+            blocks = tuple([(letter, number, period) for letter, (number, period) in zip(front + back, lengths)])
+            shape = Shape(blocks[:len(front)], stays, blocks[len(front):], book.ends[unknown])
+            shapes.extend(fitting_shape(shape, book.deeds, lot))
+    return tuple(shapes)
+
+
+def edge_letters(book, unknown, letters):
+    """The fronts and the backs of the unknown that this sign is."""
+    ahead = []
+    behind = []
+    for row in book.rows:
+        for side in row:
+            for sign, then in zip(side, side[1:]):
+                if then == unknown:
+                    ahead.append(sign)
+                if sign == unknown:
+                    behind.append(then)
+    return letters_among(letters, ahead), letters_among(letters, behind)
+
+
+def letters_among(letters, signs):
+    """Those of the letters that are among the signs, or all of them if an unknown is."""
+    crossed = any([sign < 0 for sign in signs])
+    return [letter for letter in letters if crossed or letter in signs]
+
+
+def outlines(fronts, backs):
+    """The letters in front, whether something stays, and the letters behind, of all shapes in their order."""
+    edges = sorted(set(fronts + backs))
+    rows = [((letter,), False, ()) for letter in edges]
+    rows.extend([((one, other), False, ()) for one in fronts for other in backs if one != other])
+    rows.extend([((one,), True, (other,)) for one in fronts for other in backs])
+    rows.extend([((one,), True, ()) for one in fronts])
+    rows.extend([((), True, (other,)) for other in backs])
+    return rows + [((), True, ())]
+
+
+def fitting_shape(shape, deeds, lot):
+    """The shape, which has the ends of the unknown still, with the ends of its rest; nothing if it does not fit."""
+    start, goals = shape.ends
+    for letter, number, _ in shape.front:
+        start = deed_times(deeds[letter], number)[start]
+    if not shape.stays:
+        return [shape] if start in goals else []
+    for letter, number, _ in shape.back:
+        deed = deed_times(deeds[letter], number)
+        goals = tuple([state for state in range(len(deed)) if deed[state] in goals])
+    if lot.path_text(start, goals) is None:
+        return []
+    return [Shape(shape.front, True, shape.back, (start, goals))]
+
+
+def block_guesses(book, letters, lot):
+    """The guesses of the block step with these block letters."""
+    choices = [shapes_of(book, unknown, letters, lot) for unknown in range(len(book.ends))]
+    for shapes in combined(choices):
+        parts, many = formed_parts(shapes)
+        rows = [tuple([blocked_side(opened_side(side, parts), letters, many) for side in row]) for row in book.rows]
+        groups = grouped(rows, book.deeds)
+        ends = [shape.ends for shape in shapes]
+        for classes in class_choices(groups):
+            yield block_guess(book, parts, rows, ends, named_classes(groups, classes), lot)
+
+
+def formed_parts(shapes):
+    """The parts of these shapes, and how many variables their forms have."""
+    periods = [period for shape in shapes for _, _, period in shape.front + shape.back if period > 0]
+    many = len(periods)
+    parts = []
+    at = 0
+    for shape in shapes:
+        sides = []
+        for blocks in (shape.front, shape.back):
+            couples = []
+            for letter, number, period in blocks:
+                factors = [0 for _ in periods]
+                if period > 0:
+                    factors[at] = period
+                    at += 1
+                couples.append((letter, (number, tuple(factors))))
+            sides.append(tuple(couples))
+        parts.append((sides[0], shape.stays, sides[1]))
+    return tuple(parts), many
+
+
+def blocked_side(opened, letters, many):
+    """The opened side with each block as one couple (letter, form); beside any other sign stands None."""
+    single = (1, (0,) * many)
+    side = []
+    for sign, form in opened:
+        if sign not in letters:
+            side.append((sign, None))
+            continue
+        forms = [single if form == ONCE else form]
+        if side and side[-1][0] == sign:
+            forms.append(side.pop()[1])
+        side.append((sign, form_sum(forms, many)))
+    return side
+
+
+def grouped(rows, deeds):
+    """The groups of unlike blocks: rows of couples (letter, form) of one letter and one deed."""
+    groups = {}
+    met = {}
+    for row in rows:
+        for side in row:
+            for letter, form in side:
+                if form is not None and (letter, form) not in met:
+                    met[(letter, form)] = True
+                    deed = deed_times(deeds[letter], form[0])
+                    groups.setdefault((letter, deed), []).append((letter, form))
+    # Groups of one letter keep the order of their first places.
+    return [groups[name] for name in sorted(groups, key=lambda group: group[0])]
+
+
+def class_choices(groups):
+    """All choices of a class row for each group, those of the last group changing fastest."""
+    factor_rows = [[factors for _, (_, factors) in group] for group in groups]
+    rows = [least_class_row((), factors) for factors in factor_rows]
+    while True:
+        yield tuple(rows)
+        at = len(rows) - 1
+        while at >= 0:
+            row = next_class_row(rows[at], factor_rows[at])
+            rows[at] = least_class_row((), factor_rows[at]) if row is None else row
+            if row is not None:
+                break
+            at -= 1
+        if at < 0:
+            return
+
+
+def named_classes(groups, classes):
+    """For each couple (letter, form) a name of its class."""
+    names = {}
+    for at, group in enumerate(groups):
+        for couple, entry in zip(group, classes[at]):
+            names[couple] = (at, entry)
+    return names
+
+
+def block_guess(book, parts, rows, ends, names, lot):
+    """The guess in which couples (letter, form) with one name are of one class."""
+    many = len(book.deeds)
+    numbers = {}
+    members = []
+    pressed = [tuple([tuple([couple[0] if couple[1] is None else class_letter(couple, names, numbers, members, many)
+                             for couple in side]) for side in row]) for row in rows]
+    news = tuple([("row", couples[0][0], couples[0][1]) for couples in members])
+    deeds = book.deeds + tuple([deed_times(book.deeds[letter], form[0]) for _, letter, form in news])
+    equations = tuple([form_gap(form, couples[0][1]) for couples in members for _, form in couples[1:]])
+    return told_guess(parts, news, pressed, deeds, ends, equations, lot)
+
+
+def class_letter(couple, names, numbers, members, many):
+    """The new letter of a couple's class, from the number many on.
+
+    numbers has the new letters of the classes and of the couples met so far, members the couples of each class;
+    both are given what is met here.
+    """
+    name = names[couple]
+    if name not in numbers:
+        numbers[name] = many + len(members)
+        members.append([])
+    if couple not in members[numbers[name] - many]:
+        members[numbers[name] - many].append(couple)
+    return numbers[name]
