@@ -2,8 +2,10 @@
 
 from itertools import product
 
+from pressedwords.books import Book
 from pressedwords.deeds import deeds_of
 from pressedwords.expressions import read_expression
+from pressedwords.settling import start_of
 from pressedwords.watchers import watcher_of
 
 
@@ -93,3 +95,13 @@ def check_result(test, kind, names):
     for alien in (Alien(**vars(made)), tuple(given), None, 0, "thing"):
         test.assertFalse(made == alien)
         test.assertTrue(made != alien)
+
+
+def root_of(lot, *rows, ends=None):
+    """What start_of tells of rows like "Xab=aYX": small letters are outer ones, X, Y and Z unknowns of any text."""
+    whole = (0, tuple(range(lot.states)))
+    signs = {letter: number for number, letter in enumerate(lot.letters)}
+    signs.update({"X": -1, "Y": -2, "Z": -3})
+    sides = [tuple(tuple(signs[sign] for sign in side) for side in row.split("=")) for row in rows]
+    deeds = [lot.letter_deed(letter) for letter in lot.letters]
+    return start_of(Book(sides, deeds, ends or (whole,) * 3, lot.states), lot).told
