@@ -85,10 +85,12 @@ def block_guesses(book, letters, lot):
     for shapes in combined(choices):
         parts, many = formed_parts(shapes)
         rows = [tuple([blocked_side(opened_side(side, parts), letters, many) for side in row]) for row in book.rows]
-        groups = grouped(rows, book.deeds)
         ends = [shape.ends for shape in shapes]
+        powers = block_deeds(rows, book.deeds)
+        groups = grouped(powers)
         for classes in class_choices(groups):
-            yield block_guess(book, parts, rows, ends, named_classes(groups, classes), lot)
+            members = class_members(powers, groups, classes)
+            yield block_guess(book, parts, rows, ends, members, powers, lot)
 
 
 def formed_parts(shapes):
@@ -127,24 +129,29 @@ def blocked_side(opened, letters, many):
     return side
 
 
-def grouped(rows, deeds):
-    """The groups of unlike blocks: rows of couples (letter, form) of one letter and one deed."""
-    groups = {}
-    met = {}
+def block_deeds(rows, deeds):
+    """The unlike couples (letter, form) of blocks, by first place, each with its deed."""
+    powers = {}
     for row in rows:
         for side in row:
-            for letter, form in side:
-                if form is not None and (letter, form) not in met:
-                    met[(letter, form)] = True
-                    deed = deed_times(deeds[letter], form[0])
-                    groups.setdefault((letter, deed), []).append((letter, form))
+            for couple in side:
+                if couple[1] is not None and couple not in powers:
+                    powers[couple] = deed_times(deeds[couple[0]], couple[1][0])
+    return powers
+
+
+def grouped(powers):
+    """The groups: rows of couples (letter, form) of one letter and one deed."""
+    groups = {}
+    for couple, deed in powers.items():
+        groups.setdefault((couple[0], deed), []).append(couple)
     # Groups of one letter keep the order of their first places.
     return [groups[name] for name in sorted(groups, key=lambda group: group[0])]
 
 
 def class_choices(groups):
     """All choices of a class row for each group, those of the last group changing fastest."""
-    factor_rows = [[factors for _, (_, factors) in group] for group in groups]
+    factor_rows = [[couple[1][1] for couple in group] for group in groups]
     rows = [least_class_row((), factors) for factors in factor_rows]
     while True:
         yield tuple(rows)
@@ -159,38 +166,27 @@ def class_choices(groups):
             return
 
 
-def named_classes(groups, classes):
-    """For each couple (letter, form) a name of its class."""
+def class_members(powers, groups, classes):
+    """The couples of each class in order, the classes by first place, for this choice of a class row for each group."""
     names = {}
     for at, group in enumerate(groups):
         for couple, entry in zip(group, classes[at]):
             names[couple] = (at, entry)
-    return names
+    members = {}
+    for couple in powers:
+        members.setdefault(names[couple], []).append(couple)
+    return list(members.values())
 
 
-def block_guess(book, parts, rows, ends, names, lot):
-    """The guess in which couples (letter, form) with one name are of one class."""
-    many = len(book.deeds)
-    numbers = {}
-    members = []
-    pressed = [tuple([tuple([couple[0] if couple[1] is None else class_letter(couple, names, numbers, members, many)
-                             for couple in side]) for side in row]) for row in rows]
+def block_guess(book, parts, rows, ends, members, powers, lot):
+    """The guess in which members are the couples (letter, form) of each class."""
+    signs = {}
+    for number, couples in enumerate(members, start=len(book.deeds)):
+        for couple in couples:
+            signs[couple] = number
+    # What is no block is a sign with None beside it, and stays.
+    pressed = [tuple([tuple([signs.get(couple, couple[0]) for couple in side]) for side in row]) for row in rows]
     news = tuple([("row", couples[0][0], couples[0][1]) for couples in members])
-    deeds = book.deeds + tuple([deed_times(book.deeds[letter], form[0]) for _, letter, form in news])
+    deeds = book.deeds + tuple([powers[couples[0]] for couples in members])
     equations = tuple([form_gap(form, couples[0][1]) for couples in members for _, form in couples[1:]])
     return told_guess(parts, news, pressed, deeds, ends, equations, lot)
-
-
-def class_letter(couple, names, numbers, members, many):
-    """The new letter of a couple's class, from the number many on.
-
-    numbers has the new letters of the classes and of the couples met so far, members the couples of each class;
-    both are given what is met here.
-    """
-    name = names[couple]
-    if name not in numbers:
-        numbers[name] = many + len(members)
-        members.append([])
-    if couple not in members[numbers[name] - many]:
-        members[numbers[name] - many].append(couple)
-    return numbers[name]

@@ -50,8 +50,8 @@ class Net:
 
     numbers has the number of each listed book by its key, ways the couple (number, place) that led to a book, or
     None for a root book; empty is the empty book's number, lent has the borrowed numbers. found has for each looked
-    number how many outcomes its look has, and the couples (place, number) of those that are books; seen has the
-    outcomes themselves where this net has worked them out.
+    number how many outcomes its look has, and the couples (place, number) of those that are books. A look may have
+    very many outcomes, so they are not kept.
     """
 
     def __init__(self, roots, lot, order="first", *, room=300, backward=False, known=()):
@@ -68,7 +68,6 @@ class Net:
         self.empty = None
         self.lent = {}
         self.found = {}
-        self.seen = {}
         fresh = {root.key: root for root in roots if isinstance(root, Book)}
         if len(fresh) > self.room:
             raise TooFull(())
@@ -178,8 +177,7 @@ class Net:
 
     def take_look(self, number):
         """Takes in the look at an open book, whole or not at all."""
-        outcomes = look_over(self.listed[number], self.lot).outcomes
-        books = [(place, told) for place, (_, told) in enumerate(outcomes) if isinstance(told, Book)]
+        many, books = self.outcome_books(self.listed[number])
         fresh = {}
         for place, book in books[::-1] if self.backward else books:
             if book not in self and book.key not in fresh:
@@ -187,9 +185,21 @@ class Net:
         if len(self.listed) + len(fresh) > self.room:
             raise TooFull(self.open_books)
         self.put_books([(book, (number, place)) for book, place in fresh.values()])
-        self.found[number] = (len(outcomes), tuple([(place, self.numbers[book.key]) for place, book in books]))
-        self.seen[number] = outcomes
+        self.found[number] = (many, tuple([(place, self.numbers[book.key]) for place, book in books]))
         self.looks += 1
+
+    def outcome_books(self, book):
+        """How many outcomes the look at a book has, and couples (place, outcome) for those that are books."""
+        step = told_step(book)
+        lot = self.lot
+        books = []
+        many = 0
+        for guess in guesses_of(book, step, lot):
+            told = outcome_of(guess)
+            if isinstance(told, Book):
+                books.append((many, told))
+            many += 1
+        return many, books
 
     def run(self, steps):
         """Advances until the net has ended, at most so many times, and returns how often."""
@@ -205,8 +215,6 @@ class Net:
             raise Ended("filled")
         self.ask_looked(number)
         del self.found[number]
-        if number in self.seen:
-            del self.seen[number]
 
     def ask_looked(self, number):
         self.ask_listed(number)
@@ -216,13 +224,8 @@ class Net:
     def outcomes_at(self, number):
         """The outcomes of a looked book's look, with numbers in the place of books."""
         self.ask_looked(number)
-        if number in self.seen:
-            outcomes = self.seen[number]
-        else:
-            # A net that was read from a text has not worked the look out.
-            outcomes = look_over(self.listed[number], self.lot).outcomes
         return tuple([(guess, self.numbers.get(told.key) if isinstance(told, Book) else told)
-                      for guess, told in outcomes])
+                      for guess, told in look_over(self.listed[number], self.lot).outcomes])
 
     def way_to(self, number):
         """The way by which a book was listed: couples of a number and a place, from a root book on."""

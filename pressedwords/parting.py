@@ -18,7 +18,7 @@ def parted(neighbouring):
         aheads.setdefault(behind, []).append((ahead, many))
     left = {}
     right = {}
-    for letter in sorted(set([letter for couple, _ in unlike for letter in couple])):
+    for letter in sorted(set([one for couple, _ in unlike for one in couple])):
         if worth(aheads.get(letter, []), left, right) > worth(behinds.get(letter, []), right, left):
             right[letter] = True
         else:

@@ -1,9 +1,9 @@
 """Trails to the empty book, and faults of nets [9.11, 9.12]."""
 
-from pressedwords.books import Book
 from pressedwords.errors import NotFilled
-from pressedwords.nets import look_over
 from pressedwords.settling import start_of
+from pressedwords.stepping import guesses_of
+from pressedwords.steps import told_step
 
 
 class Trail:
@@ -25,10 +25,19 @@ def trail_of(net):
     first = net.filled
     # The way is gone backward, so that the first book on it comes last.
     for number, place in net.way_to(net.filled)[::-1]:
-        look = look_over(net.books[number], net.lot)
-        turns.append((net.books[number], look.step, look.outcomes[place][0]))
+        book = net.books[number]
+        turns.append((book, told_step(book), guess_at(book, place, net.lot)))
         first = number
     return Trail(net.rooted.index(first), tuple(turns[::-1]))
+
+
+def guess_at(book, place, lot):
+    """The guess at this place of the look at a book, or None."""
+    step = told_step(book)
+    for at, guess in enumerate(guesses_of(book, step, lot)):
+        if at == place:
+            return guess
+    return None
 
 
 def net_fault(net):
@@ -60,11 +69,11 @@ def known_fault(net):
 
 
 def due_outcomes(net, number, dues):
-    """The due outcomes of a book, None for each that is no book; dues keeps what was worked out."""
+    """How many outcomes the look at a book has, and a dict of those that are books; dues keeps what was worked out."""
     if number not in dues:
         book = net.books[number]
-        outcomes = look_over(book, net.lot).outcomes if book.rows else ()
-        dues[number] = [told if isinstance(told, Book) else None for _, told in outcomes]
+        many, couples = net.outcome_books(book) if book.rows else (0, [])
+        dues[number] = (many, dict(couples))
     return dues[number]
 
 
@@ -72,27 +81,22 @@ def look_fault(net, dues):
     """The least looked book with a wrong outcome, and its least place."""
     for number in sorted(net.found):
         many, couples = net.found[number]
-        place = wrong_place(net, due_outcomes(net, number, dues), many, couples)
-        if place is not None:
-            return ("look", number, place)
+        due_many, due = due_outcomes(net, number, dues)
+        kept = {place: net.books[told] for place, told in couples}
+        wrong = [place for place in list(kept) + list(due) if kept.get(place) != due.get(place)]
+        if many != due_many:
+            # Here the first outcome is missing or one too many.
+            wrong.append(min(many, due_many))
+        if wrong:
+            return ("look", number, min(wrong))
     return None
-
-
-def wrong_place(net, due, many, couples):
-    """The least place at which an outcome is wrong, missing or one too many; None if there is none."""
-    kept = {place: net.books[number] for place, number in couples}
-    for place, book in enumerate(due):
-        if place >= many or kept.get(place) != book:
-            return place
-    return len(due) if many > len(due) else None
 
 
 def way_fault(net, dues):
     """The least book that is no root book and is not the outcome at the last couple of its way."""
     for number, way in enumerate(net.ways):
-        if way is None:
-            continue
-        due = due_outcomes(net, way[0], dues)
-        if way[1] >= len(due) or due[way[1]] != net.books[number]:
-            return ("way", number)
+        if way is not None:
+            _, due = due_outcomes(net, way[0], dues)
+            if due.get(way[1]) != net.books[number]:
+                return ("way", number)
     return None

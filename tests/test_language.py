@@ -165,7 +165,7 @@ class LanguageTest(unittest.TestCase):
                     fitting.append(node.iter)
                 elif isinstance(node, ast.YieldFrom):
                     fitting.append(node.value)
-                elif isinstance(node, ast.Call) and getattr(node.func, "id", None) in ("list", "tuple"):
+                elif isinstance(node, ast.Call) and getattr(node.func, "id", None) in ("list", "tuple", "enumerate"):
                     fitting.extend(node.args)
             names = [node.func for node in fitting if isinstance(node, ast.Call)]
             for node in ast.walk(tree):
