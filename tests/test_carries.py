@@ -298,6 +298,7 @@ class AnswerFaultTest(unittest.TestCase):
     def test_numbers(self):
         for numbers in (None, 3, "ab", (), (0,), (0, 1, 0), {}):
             self.assertEqual(answer_fault(self.SYSTEM, numbers), ("numbers",))
+            self.assertEqual(answer_fault(self.SYSTEM[:1], numbers), ("numbers",))
 
     def test_number(self):
         for number in (-1, True, "1", None, (1,)):

@@ -2,7 +2,7 @@
 
 import unittest
 
-from pressedwords.guesses import ONCE, Guess, opened_side
+from pressedwords.guesses import ONCE, Guess, combined, opened_side
 from tests.helpers import check_result, holds_list
 
 
@@ -35,6 +35,15 @@ class OpenedSideTest(unittest.TestCase):
         self.assertEqual(opened_side((-2, 1, -1, -1, -4, -3), parts),
                          second + ((1, ONCE),) + first + first + ((-3, ONCE),))
         self.assertFalse(holds_list(opened_side([-1, -2, 0], parts)))
+
+
+class CombinedTest(unittest.TestCase):
+    def test_the_last_row_changes_fastest(self):
+        self.assertEqual(list(combined([(1, 2), (3,), [4, 5]])), [(1, 3, 4), (1, 3, 5), (2, 3, 4), (2, 3, 5)])
+
+    def test_no_rows_and_empty_rows(self):
+        self.assertEqual(list(combined([])), [()])
+        self.assertEqual(list(combined([(1, 2), ()])), [])
 
 
 if __name__ == "__main__":

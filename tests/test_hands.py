@@ -340,7 +340,8 @@ class BadTextTest(unittest.TestCase):
             self.assertEqual(hands_text(read).split("\n")[1], line)
 
     def test_line_1_by_the_books(self):
-        self.assert_line(1, "reports 1", "reports 99", "reports 0 lost 1")
+        many = len(self.hands.net)
+        self.assert_line(1, "reports 1", "reports 99", f"reports {many}", "reports 0 lost 1")
         empty = Hands(Net([Book((), (), ()), one(*SHUT)], ONE), 1)
         lines = hands_text(empty).split("\n")
         self.assert_wrong([lines[0], "reports 0"] + lines[2:], 1)

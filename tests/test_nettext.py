@@ -260,7 +260,8 @@ class BadTextTest(unittest.TestCase):
 
     def test_look(self):
         self.assert_line(15, "", "look", "look 0", "look 1 2 1 0", "look 0 x", "look 0 02", "look 0 2 1",
-                         "look 0 2 2 0", "look 0 2 1 2", "look 0 2 1 0 1 0", "look 0 2 1 0 0 0", "look 0 2 x 0", "look 0 2 1 x",
+                         "look 0 2 2 0", "look 0 2 1 2", "look 0 2 1 0 1 0", "look 0 2 1 0 0 0", "look 0 2 x 0",
+                         "look 0 2 1 x",
                          "look 0 2 1 0 ", "look 0 1000000000", "look 0 2 1 0 1", "looks 0 2 1 0", "look 00 2 1 0",
                          "look 0 -1", "end")
         for line in ("look 0 0", "look 0 999999999 0 1 999999998 0", "look 0 2 0 0 1 1"):

@@ -111,6 +111,10 @@ class NoFaultTest(unittest.TestCase):
                 self.assertIsNone(net_fault(net))
 
 
+    def test_a_known_empty_book_is_not_borrowed(self):
+        self.assertIsNone(net_fault(Net([EMPTY, one(*SHUT)], ONE, known=[EMPTY])))
+
+
 class FaultTest(unittest.TestCase):
     """Faults of nets that were read from texts with lines put in the place of others."""
 
