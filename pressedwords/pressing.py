@@ -5,7 +5,7 @@ stands there many times. A rule that is not pressed to a sign yet has -1 less it
 body is a tuple of such items, and stands there many times, which is 2 or more.
 """
 
-from pressedwords.grammars import Grammar, check_word, trimmed_grammar
+from pressedwords.grammars import Grammar, trimmed_grammar
 from pressedwords.parting import parted
 
 
