@@ -118,11 +118,12 @@ def symbol_times(grammar, word):
         times[symbol] += 1
     for symbol in range(len(times) - 1, -1, -1):
         rule = grammar.rules[symbol]
+        many = times[symbol]
         if rule[0] == "pair":
-            times[rule[1]] += times[symbol]
-            times[rule[2]] += times[symbol]
+            times[rule[1]] += many
+            times[rule[2]] += many
         elif rule[0] == "row":
-            times[rule[1]] += times[symbol] * rule[2]
+            times[rule[1]] += many * rule[2]
     return times
 
 

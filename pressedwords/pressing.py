@@ -180,13 +180,14 @@ class Press:
         """For each row how often it occurs in the texts of the words."""
         often = [0] * self.many + [1] * (len(self.rows) - self.many)
         for number in self.live[::-1]:
+            copies = often[number]
             for what, many in self.rows[number]:
                 if isinstance(what, tuple):
                     for other, _ in what:
                         if other < 0:
-                            often[-1 - other] += often[number] * many
+                            often[-1 - other] += copies * many
                 elif what < 0:
-                    often[-1 - what] += often[number]
+                    often[-1 - what] += copies
         return often
 
     def sides_of(self, edges, written):

@@ -177,6 +177,18 @@ class LanguageTest(unittest.TestCase):
                         place = f"{path.name}:{node.lineno}"
                         self.assertIsInstance(part, (ast.Name, ast.Attribute, ast.Constant), place)
 
+    def test_nothing_is_added_to_what_it_comes_from(self):
+        # L5 Iteration, L23: what `+=` and the like change is not named in what they take.
+        for place, node in self.nodes(ast.AugAssign):
+            changed = node.target
+            while isinstance(changed, (ast.Subscript, ast.Attribute)):
+                changed = changed.value
+            names = [part.id for part in ast.walk(node.value) if isinstance(part, ast.Name)]
+            self.assertNotIn(changed.id, names, place)
+        for place, node in self.nodes(ast.Call):
+            if isinstance(node.func, ast.Attribute) and node.func.attr in ("extend", "update"):
+                self.assertNotIn(ast.unparse(node.func.value), [ast.unparse(part) for part in node.args], place)
+
     def test_comparisons_by_is(self):
         for place, node in self.nodes(ast.Compare):
             for operator, other in zip(node.ops, node.comparators):
