@@ -68,3 +68,42 @@ class Machine:
     def takes(self, places):
         """Whether a text that leads to these places is one of the expression's."""
         return places & self.lasts != 0
+
+    def letter_leads(self, letter):
+        """For each place the places to which a letter leads from it."""
+        return tuple([self.after(1 << at, letter) for at in range(len(self.follows))])
+
+
+# The leads of a text are, for each place of a machine, the places to which the text leads from it.
+
+
+def places_behind(places, leads):
+    """The places to which a text of these leads leads from these places."""
+    onward = 0
+    for at, behind in enumerate(leads):
+        if places >> at & 1:
+            onward = onward | behind
+    return onward
+
+
+def leads_along(parts):
+    """The leads of some texts behind one another, one or more."""
+    along = parts[0]
+    for part in parts[1:]:
+        # Many places lead to the same ones, which are gone on from once.
+        behind = {places: places_behind(places, part) for places in sorted(set(along))}
+        along = tuple([behind[places] for places in along])
+    return along
+
+
+def leads_times(leads, many):
+    """The leads of a text that stands so many times, once or more."""
+    power = leads
+    square = leads
+    rest = many - 1
+    while rest > 0:
+        if rest & 1:
+            power = leads_along([power, square])
+        square = leads_along([square, square])
+        rest = rest // 2
+    return power

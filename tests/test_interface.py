@@ -34,13 +34,26 @@ FUNCTIONS = {
     "grammars": "word_symbol(grammar,word) joined_grammars(one,other) cut_word(grammar,word,begin,end) "
                 "trimmed_grammar(grammar,words)",
     "pressing": "press_words(grammar,words) same_text(grammar,one,other) first_unlike(grammar,one,other)",
+    "fillings": "filling_of(texts) same_filling(one,other) chosen_filling(filling,names) filled_word(filling,side) "
+                "saying_true(filling,saying) judge_filling(sayings,letters,filling)",
+    "unfolding": "unfold_stages(trail,letters,lot) unfold(trail,letters,unknowns,spares,empties,lot)",
+    "papers": "join_papers(one,other) trim_paper(books,paper,lot) closed_list(net,known=None)",
+    "judging": "judge_list(books,paper,lot)",
+    "papertext": "paper_text(paper) read_paper(text)",
+    "cases": "check_sayings(sayings,letters) expressions_in(sayings) cases_of(sayings,letters) lot_for(sayings,letters)",
 }
 PROPERTIES = {
     "books.Book": "key",
     "nets.Net": "books open_books borrowed looked filled verdict ended bound largest",
     "hands.Hands": "reports",
+    "fillings.Filling": "names",
+    "papers.Paper": "books",
+    "cases.Case": "names",
 }
-SPECIAL = {"nets.Net": "__len__ __iter__ __contains__"}
+SPECIAL = {
+    "nets.Net": "__len__ __iter__ __contains__",
+    "papers.Paper": "__len__ __iter__ __contains__",
+}
 # All that change: == is promised of none of them.
 CHANGING = ("Net", "Hands")
 CLASSES = {
@@ -62,6 +75,10 @@ CLASSES = {
                      "advance() look_at(number) run(steps) forget(number) outcomes_at(number) way_to(number)")},
     "hands": {"Hands": ("(net,many)", "take(hand) drop(hand) write(hand) holds(hand) deliver(report) lose(report) "
                         "forget(number) finish()")},
+    "fillings": {"Filling": ("(grammar,words)", "word_of(name) texts(room)")},
+    "unfolding": {"Stages": ("(grammar,stages)", "")},
+    "papers": {"Entry": ("(book,step,lots)", ""), "Shut": ("(paper)", ""), "Paper": ("(deeds,entries)", "")},
+    "cases": {"Case": ("(rows,sets,full)", "")},
     "guesses": {"Guess": ("(parts,news,told,letters,unknowns,spares,equations)", "")},
 }
 
