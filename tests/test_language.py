@@ -197,7 +197,11 @@ class LanguageTest(unittest.TestCase):
 
     def test_errors_are_own_and_raised_on_the_spot(self):
         own = {node.name for node in self.trees[PACKAGE / "errors.py"].body if isinstance(node, ast.ClassDef)}
+        handled = [node for _, handler in self.nodes(ast.ExceptHandler) for node in ast.walk(handler)]
         for place, node in self.nodes(ast.Raise):
+            if node.exc is None:
+                self.assertIn(node, handled, place)
+                continue
             self.assertIsInstance(node.exc, ast.Call, place)
             self.assertIn(node.exc.func.id, own, place)
         for place, node in self.nodes(ast.ExceptHandler):
