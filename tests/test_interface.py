@@ -41,6 +41,15 @@ FUNCTIONS = {
     "judging": "judge_list(books,paper,lot)",
     "papertext": "paper_text(paper) read_paper(text)",
     "cases": "check_sayings(sayings,letters) expressions_in(sayings) cases_of(sayings,letters) lot_for(sayings,letters)",
+    "roots": "roots_of(case,expressions,watcher,lot)",
+    "solving": "solve(sayings,letters=2,order='first',*,room=300,known=None) judge_shut(sayings,letters,shut) "
+               "follows(sayings,saying,letters=2,order='first',*,room=300)",
+    "scripts": "run_script(script,inputs) script_text(script) read_script(text) turned_at(script,road)",
+    "ways": "ways_of(script) stop_goals(script,stop) apart_goals(one,other) meet_goals(goals,letters,*,room=300) "
+            "told_apart(one,other,*,room=300) never_fault(goals,letters,never) input_for(script,turns,*,room=300) "
+            "inputs_of(filling,reads,room=1000)",
+    "deskdeeds": "check_deed(thing)",
+    "stories": "print_deeds(deeds) read_deeds(text,letters) put_away(desk) taken_up(text)",
 }
 PROPERTIES = {
     "books.Book": "key",
@@ -49,13 +58,16 @@ PROPERTIES = {
     "fillings.Filling": "names",
     "papers.Paper": "books",
     "cases.Case": "names",
+    "solving.Solving": "ended",
 }
 SPECIAL = {
     "nets.Net": "__len__ __iter__ __contains__",
     "papers.Paper": "__len__ __iter__ __contains__",
+    "scripts.Script": "__len__ __iter__",
+    "desk.Desk": "__len__ __iter__",
 }
-# All that change: == is promised of none of them.
-CHANGING = ("Net", "Hands")
+# Those of which == is not promised.
+CHANGING = ("Net", "Hands", "Solving")
 CLASSES = {
     "books": {"Book": ("(rows,deeds,ends,states=1)", ""), "Clash": ("(why,at)", "")},
     "tidying": {"Canon": ("(book,letters,unknowns)", "")},
@@ -79,6 +91,11 @@ CLASSES = {
     "unfolding": {"Stages": ("(grammar,stages)", "")},
     "papers": {"Entry": ("(book,step,lots)", ""), "Shut": ("(paper)", ""), "Paper": ("(deeds,entries)", "")},
     "cases": {"Case": ("(rows,sets,full)", "")},
+    "roots": {"Root": ("(told,letters,unknowns,spares,empties)", "")},
+    "solving": {"Solving": ("(sayings,letters=2,order='first',*,room=300,known=None)", "advance() refresh()")},
+    "scripts": {"Script": ("(statements,letters=2)", ""), "Run": ("(turns,used,ends,stop)", "")},
+    "ways": {"Way": ("(turns,reads,sayings,ends,stop)", ""), "Found": ("(turns,filling)", ""), "Never": ("(papers)", "")},
+    "desk": {"Desk": ("(letters=2,room=300,order='first')", "do_deed(deed) trial_deeds(deeds)"), "Trial": ("(tolds,refused)", "")},
     "guesses": {"Guess": ("(parts,news,told,letters,unknowns,spares,equations)", "")},
 }
 
