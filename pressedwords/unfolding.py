@@ -25,7 +25,7 @@ class Unfolding:
         self.rules = []
         self.made = {}
 
-    def symbol(self, rule):
+    def symbol_of(self, rule):
         """The symbol of this rule, which is added if it is new."""
         if rule not in self.made:
             self.made[rule] = len(self.rules)
@@ -34,24 +34,24 @@ class Unfolding:
 
     def times(self, symbol, many):
         """A symbol for the text of another one, many times."""
-        return symbol if many == 1 else self.symbol(("row", symbol, many))
+        return symbol if many == 1 else self.symbol_of(("row", symbol, many))
 
     def with_news(self, symbols, guess, numbers):
         """The symbols of a book's letters and behind them those of the guess's new letters."""
         grown = list(symbols)
         for new in guess.news:
             if new[0] == "pair":
-                grown.append(self.symbol(("pair", symbols[new[1]], symbols[new[2]])))
+                grown.append(self.symbol_of(("pair", symbols[new[1]], symbols[new[2]])))
             elif new[0] == "row":
                 grown.append(self.times(symbols[new[1]], form_value(new[2], numbers)))
             else:
-                grown.append(self.symbol(("text", self.lot.text_of(new[1]))))
+                grown.append(self.symbol_of(("text", self.lot.text_of(new[1]))))
         return tuple(grown)
 
     def ends_word(self, ends):
         """The word of an unknown that stands in no row."""
         start, goals = ends
-        return (self.symbol(("text", self.lot.path_text(start, goals))),)
+        return (self.symbol_of(("text", self.lot.path_text(start, goals))),)
 
     def words_ahead(self, guess, symbols, numbers, words):
         """The words of the unknowns of a guess's parent, if those of the guess's book are these."""
@@ -78,7 +78,7 @@ def unfold_stages(trail, letters, lot):
 
 def stages_of(unfolding, trail, letters):
     """A couple (symbols, words) for each turn of the trail."""
-    symbols = tuple([unfolding.symbol(("text", text)) for text in letters])
+    symbols = tuple([unfolding.symbol_of(("text", text)) for text in letters])
     seen = []
     for _, _, guess in trail.turns:
         numbers = whole(guess.equations).numbers

@@ -1,6 +1,6 @@
 """Ways of scripts, and which inputs go them [15.6 to 15.10]."""
 
-from pressedwords.books import is_side
+from pressedwords.books import is_sequence, is_side
 from pressedwords.errors import NoName, NoWay, TooLong, UnlikeScripts
 from pressedwords.fillings import Filling
 from pressedwords.sayings import exchanged, exchanged_side
@@ -93,9 +93,14 @@ def meet_goals(goals, letters, *, room=300):
     for turns, sayings in goals:
         told = solve(sayings, letters, room=room)
         if isinstance(told, Filling):
-            return Found(turns, told)
-        papers.append((turns, told))
+            return Found(as_tuples(turns), told)
+        papers.append((as_tuples(turns), told))
     return Never(tuple(papers))
+
+
+def as_tuples(thing):
+    """The turns of a goal, which may be lists, as tuples."""
+    return tuple([as_tuples(part) for part in thing]) if is_sequence(thing) else thing
 
 
 def never_fault(goals, letters, never):
@@ -104,7 +109,7 @@ def never_fault(goals, letters, never):
         return "many"
     for at, (turns, shut) in enumerate(never.papers):
         goal_turns, sayings = goals[at]
-        if turns != goal_turns or judge_shut(sayings, letters, shut) is not None:
+        if turns != as_tuples(goal_turns) or judge_shut(sayings, letters, shut) is not None:
             return at
     return None
 

@@ -152,6 +152,13 @@ class WideTest(unittest.TestCase):
         for wide in ((some, some, "some [ ?x = a ; ?x = b ]"), ("some [ " + " ; ".join(["?x = a"] * 65) + " ]",),
                      ("some [ " + " ; ".join([some] * 9) + " ]",)):
             self.assertEqual(caught(TooWide, cases_of, [say(text) for text in wide], 2), ("cases",))
+        for word, other in (("all", "some"), ("not [ some", "all")):
+            behind = " ]" if word[0] == "n" else ""
+            part = "not [ ?x in a ]" if behind else "?x = a"
+            eight, two = [f"{other} [ " + " ; ".join([part] * many) + " ]" for many in (8, 2)]
+            self.assertEqual(len(cases(f"{word} [ {eight} ; {eight} ]" + behind)), 64)
+            wide = say(f"{word} [ {eight} ; {eight} ; {two} ]" + behind)
+            self.assertEqual(caught(TooWide, cases_of, [wide], 2), ("cases",))
         self.assertEqual(len(cases(*["not [ ?x = a ]"] * 3)), 64)
         self.assertEqual(caught(TooWide, cases_of, [say("not [ ?x = a ]")] * 4, 2), ("cases",))
         self.assertEqual(len(cases_of([say("not [ ?x = a ]", 1)] * 6, 1)), 64)

@@ -17,7 +17,7 @@ from pressedwords.sayings import names_of, saying_holds
 from pressedwords.scripts import Script, read_script, turned_at
 from pressedwords.solving import Solving, follows, judge_shut, solve
 from pressedwords.stories import put_away, taken_up
-from pressedwords.ways import Never, input_for, meet_goals, stop_goals, told_apart, ways_of
+from pressedwords.ways import Never, input_for, meet_goals, stop_goals, told_apart
 from tests.helpers import Alien, as_lists, caught, check_result, holds_list, texts_up_to
 from tests.test_fillings import random_saying
 from tests.test_scripts import random_block
@@ -115,7 +115,7 @@ class EqualTest(DeskTest):
         for text in (GOING, FILLED, SHUT[0]):
             deeds = [("say", say(text)), ("script", ("new", script_of(SCRIPT).statements)), ("solve", 2)]
             one, other = Desk(), Desk()
-            for place, deed in enumerate(deeds):
+            for deed in deeds:
                 one.do_deed(deed)
                 self.assertTrue(one != other)
                 self.assertFalse(one == other)
@@ -131,6 +131,18 @@ class EqualTest(DeskTest):
         self.assertFalse(Desk(room=299) == Desk())
         self.assertFalse(Desk(order="last") == Desk())
         self.assertTrue(Desk(order=[1]) == Desk(order=(1,)))
+
+    def test_known_papers_and_what_is_saved_count(self):
+        one, other = desk_with(GOING), desk_with(GOING)
+        for deed in (("solve", 400), ("back",), ("say", say(GOING))):
+            one.do_deed(deed)
+        self.assertEqual((one.going, one.saved), (None, None))
+        self.assertFalse(one == other)
+        one.do_deed(("forget", 0))
+        self.assertTrue(one == other)
+        one.do_deed(("solve", 1))
+        one.do_deed(("cut",))
+        self.assertFalse(one == other)
 
     def test_the_log_does_not_count(self):
         one, other = desk_with(GOING), desk_with("?x = a", GOING)
@@ -400,11 +412,21 @@ class HandsTest(DeskTest):
         backward.net.run(1000)
         wanted = backward.refresh().paper.books
         self.assertNotEqual(wanted, plain)
-        for picks in ((0, 1, 3, 2), (0, 1, 6, 3), (0, 1, 0, 1, 7, 6), (0, 1, 4, 0, 1, 3, 2)):
+        for picks in ((0, 1, 3, 2), (0, 1, 6, 3), (0, 1, 0, 1, 7, 6), (0, 1, 4, 0, 1, 3, 2), (8, 9, 11, 10), (16, 1, 3, 2)):
             self.assertEqual(self.listed(2, picks), wanted, picks)
         # Acts of a hand without a book and a take of one that has a book are left out, and so is what is dropped.
         for picks in ((1, 2, 3), (0, 0, 0), (0, 2, 1), (0, 2, 3)):
             self.assertEqual(self.listed(1, picks), plain)
+        # What hand 0 has dropped hand 1 takes.
+        self.assertEqual(self.listed(2, (0, 4, 1, 3)), plain)
+        self.assertEqual(self.listed(2, (0, 1, 3)), wanted)
+
+    def test_hands_that_work_to_the_end(self):
+        for text in (TWO, FILLED):
+            desk = desk_with(text)
+            plain = desk_with(text).do_deed(("solve", 400))[1]
+            self.assertEqual(desk.do_deed(("hands", 1, (0, 1) * 30)), plain)
+            self.assertEqual(desk.do_deed(("hands", 1, (0, 1) * 30)), plain)
 
     def test_late_reports_come_in_the_order_of_writing(self):
         # Both hands write late, hand 1 first; hand 0 drops its book and its report is delivered all the same.
@@ -596,6 +618,15 @@ class TrialTest(DeskTest):
         told = desk.trial_deeds([("back",), ("say", say("?x = a")), ("solve", 9)])
         self.assertEqual(told, Trial((say(GOING), 1, desk_with("?x = a").do_deed(("solve", 9))), None))
         self.assertEqual(state(desk), before)
+
+    def test_with_a_known_paper(self):
+        desk = desk_with(GOING)
+        told = desk.do_deed(("solve", 400))[1]
+        desk.do_deed(("back",))
+        deeds = [("say", say(GOING)), ("solve", 400), ("forget", 0), ("solve", 1)]
+        trial = desk.trial_deeds(deeds)
+        self.assertEqual(trial.tolds[1:], ((0, told), len(told.paper), (1, None)))
+        self.assertEqual(desk.known, (told.paper,))
 
     def test_what_a_trial_tells_the_desk_tells(self):
         desk = desk_with(GOING)

@@ -28,7 +28,7 @@ class FillingTest(unittest.TestCase):
     def test_names(self):
         right = ["?0", "?01234567", "?1", "?99999999", "?a", "?abcdefgh", "?z"]
         self.assertEqual(Filling(EXAMPLE, [(name, (1,)) for name in right]).names, tuple(right))
-        for wrong in ("", "?", "a", "?A", "?a1", "?1a", "?abcdefghi", "?123456789", "? ", "?_", "x?", "??", 1, None,
+        for wrong in ("", "?", "a", "?A", "?a1", "?1a", "?abcdefghi", "?123456789", "? ", "?_", "x?", "??", "x1", "12", "xab", 1, None,
                       ("?x",), b"?x", "?\u0661", "?\u00e4"):
             self.assertEqual(caught(BadFilling, Filling, EXAMPLE, [(wrong, (1,))]), (0,))
             self.assertEqual(caught(BadFilling, filling_of, [("?0", "a"), (wrong, "a")]), (1,))

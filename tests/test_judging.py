@@ -95,6 +95,8 @@ class FaultTest(unittest.TestCase):
     def test_alien(self):
         wide = Book([((-1, 0), (1, -1))], [(0, 0), (0, 0)], [(0, (0,))], 2)
         self.assertEqual(judge_list([], paper_of(ENTRY, Entry(wide, None, None)), ONE), ("alien", 1))
+        bare = Book([((-1,), (-2,))], [], [(0, (0,)), (0, (0,))], 2)
+        self.assertEqual(judge_list([], paper_of(ENTRY, Entry(bare, None, None)), ONE), ("alien", 1))
         deeds = [deed for deed, _ in AB.table]
         outside = next(deed for deed in ((a, b, c) for a in range(3) for b in range(3) for c in range(3))
                        if deed not in deeds)

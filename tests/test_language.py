@@ -187,7 +187,9 @@ class LanguageTest(unittest.TestCase):
             self.assertNotIn(changed.id, names, place)
         for place, node in self.nodes(ast.Call):
             if isinstance(node.func, ast.Attribute) and node.func.attr in ("extend", "update"):
-                self.assertNotIn(ast.unparse(node.func.value), [ast.unparse(part) for part in node.args], place)
+                changed = ast.unparse(node.func.value)
+                named = [ast.unparse(part) for given in node.args for part in ast.walk(given) if isinstance(part, ast.expr)]
+                self.assertNotIn(changed, named, place)
 
     def test_comparisons_by_is(self):
         for place, node in self.nodes(ast.Compare):

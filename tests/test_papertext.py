@@ -94,7 +94,7 @@ class SpoiledTest(unittest.TestCase):
         for step in ("step", "step ", "step first", "step first ", "step first 0 0", "step first -1", "step first 01",
                      "step first 1000000000", "step pair", "step pair 0 1", "step pair 0 : 1 : 2", "step pair 0 : 1 ",
                      "step pair  : 1", "step pair 0 :1", "step pair -1 : 0", "step block ", "step block : ", "step block -1",
-                     "step block 0 x", "step row 0", "steps first 0", "step  first 0", "step First 0"):
+                     "step block 0 x", "step row 0", "step row 0 : 1", "step : 0", "steps first 0", "step  first 0", "step First 0"):
             self.refused(self.entry(step=step))
 
     def test_lots(self):

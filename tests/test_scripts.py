@@ -130,6 +130,7 @@ class FaultTest(unittest.TestCase):
                       [READ, ("if", ASK, [("stop", 1), ("put", "?z", ("?y",))], [])]):
             Script(block)
         # Behind an if of which one block stops, the names of the other one alone count.
+        self.assertEqual(fault([READ, ("if", ASK, [], [("read", "?q"), ("stop", 1)]), ("put", "?z", ("?q",))]), ("unset", (2,)))
         self.assertEqual(fault([READ, ("if", ASK, [("read", "?q"), ("stop", 1)], []), ("put", "?z", ("?q",))]), ("unset", (2,)))
         self.assertEqual(fault([READ, ("if", ASK, [("stop", 1), ("read", "?q")], [("put", "?z", ("?q",))])]), ("unset", (1, 1, 0)))
 
@@ -181,12 +182,15 @@ class FaultTest(unittest.TestCase):
         self.assertEqual(fault([READ, ("if", ASK, [], [READ] * 3), READ]), ("reads", ()))
         self.assertEqual(fault([READ, ("if", ASK, [READ] * 3, []), READ]), ("reads", ()))
         Script([READ, ("if", ASK, [READ] * 3 + [("stop", 1)], []), READ])
+        self.assertEqual(fault([READ, ("if", ASK, [READ] * 4 + [("stop", 1)], []), READ]), ("reads", ()))
         Script([READ] * 4 + [("stop", 1), READ])
 
     def test_wide(self):
         twelve = ("a",) * 12
         Script([READ, ("put", "?y", twelve), ("if", ("alike", ("?y",), twelve), [], [])])
         self.assertEqual(fault([("put", "?y", twelve + ("a",))]), ("wide", ()))
+        for sides in ((twelve + ("a",), ("b",)), (("b",), twelve + ("a",))):
+            self.assertEqual(fault([("if", ("alike",) + sides, [], [])]), ("wide", ()))
         self.assertEqual(fault([READ, ("put", "?y", twelve), ("put", "?z", ("?y", "?x"))]), ("wide", ()))
         self.assertEqual(fault([READ, ("put", "?y", twelve), ("if", ("in", ("?y", "?x"), ("any",)), [], [])]), ("wide", ()))
         self.assertEqual(fault([READ, ("put", "?y", twelve), ("if", ("not", ("or", ASK, ("alike", ("b", "?y"), ()))), [], [])]), ("wide", ()))
@@ -299,7 +303,10 @@ class TextTest(unittest.TestCase):
             told = read_script(script_text(script))
             self.assertEqual(told, script)
             self.assertFalse(holds_list(told.statements))
-        for script in (Script(()), Script([READ] + nested(4, [READ])), Script([("stop", 99)], 3),
+        second = []
+        for _ in range(4):
+            second = [("if", ASK, [READ], second)]
+        for script in (Script(()), Script([READ] + nested(4, [READ])), Script([READ] + second), Script([("stop", 99)], 3),
                        Script([READ, ("if", deep_saying(10), [], [("if", ASK, [], [])])])):
             self.assertEqual(read_script(script_text(script)), script)
 
@@ -338,6 +345,18 @@ class TurnedTest(unittest.TestCase):
         inner = turned_at(script, (2, 1, 0))
         self.assertEqual(script_text(inner), TEXT.replace("if ?x = empty { } else { read ?z }", "if not [ ?x = empty ] { read ?z } else { }"))
         self.assertEqual(inner.letters, 2)
+
+    def test_at_deep_roads(self):
+        text = ("letters 2 : if a = a { if a = b { stop 1 } else { if b = a { stop 2 } else { stop 3 } } } "
+                "else { stop 4 , if b = b { if b = a a { stop 5 } else { stop 6 } } else { } }")
+        for road, old, new in (((0, 0, 0, 1, 0), "if b = a { stop 2 } else { stop 3 }", "if not [ b = a ] { stop 3 } else { stop 2 }"),
+                               ((0, 0, 0), "if a = b { stop 1 } else { if b = a { stop 2 } else { stop 3 } }",
+                                "if not [ a = b ] { if b = a { stop 2 } else { stop 3 } } else { stop 1 }"),
+                               ((0, 1, 1, 0, 0), "if b = a a { stop 5 } else { stop 6 }", "if not [ b = a a ] { stop 6 } else { stop 5 }")):
+            told = turned_at(read_script(text), road)
+            self.assertEqual(script_text(told), text.replace(old, new))
+        for road in ((0, 0, 0, 0, 0), (0, 1, 0, 0, 0), (0, 1, 1, 1, 0), (1, 0, 0), (0, 0, 1, 0, 0), (0, 0, 0, 1, 1)):
+            self.assertEqual(caught(NoIf, turned_at, read_script(text), road), (road,))
 
     def test_twice(self):
         script = read_script(TEXT)

@@ -48,6 +48,11 @@ class DeedsTest(unittest.TestCase):
             if deed[0] not in ("say", "follows"):
                 self.assertEqual(print_deeds([as_lists(deed)]), line)
 
+    def test_three_letters(self):
+        for line in ("say c = ?x", "same put ?x c , if ?x in c* { put ?y a c } else { }", "script put in 0 : put ?x c"):
+            self.assertEqual(print_deeds(read_deeds(line, 3)), line)
+            self.assertEqual(caught(BadText, read_deeds, line, 2), (0, 0))
+
     def test_no_deeds(self):
         self.assertEqual((print_deeds(()), read_deeds("", 1)), ("", ()))
 

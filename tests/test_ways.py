@@ -12,7 +12,7 @@ from pressedwords.scripts import Script, read_script, run_script, turned_at
 from pressedwords.solving import judge_shut, solve
 from pressedwords.ways import (Found, Never, Way, apart_goals, input_for, inputs_of, meet_goals, never_fault, stop_goals,
                                told_apart, ways_of)
-from tests.helpers import caught, check_result, holds_list, texts_up_to
+from tests.helpers import as_lists, caught, check_result, holds_list, texts_up_to
 from tests.test_scripts import random_script
 
 UNKNOWNS = ("?ra", "?rb", "?rc", "?rd")
@@ -117,6 +117,17 @@ class MeetTest(unittest.TestCase):
         self.assertIsNone(never_fault(goals, 2, told))
         self.assertEqual(meet_goals((), 2), Never(()))
         self.assertIsNone(never_fault((), 2, Never(())))
+
+    def test_goals_as_lists(self):
+        one, other = script("read ?x , if ?x = a { stop 1 } else { }"), script("read ?x , if ?x in a { stop 1 } else { }")
+        goals = apart_goals(one, other)
+        never = meet_goals(as_lists(goals), 2)
+        self.assertEqual(never, meet_goals(goals, 2))
+        self.assertIs(type(never), Never)
+        self.assertFalse(holds_list(never.papers))
+        self.assertIsNone(never_fault(as_lists(goals), 2, never))
+        goals = stop_goals(one, 1)
+        self.assertEqual(meet_goals(as_lists(goals), 2), meet_goals(goals, 2))
 
     def test_each_fault_of_a_never(self):
         made = script("read ?x , if ?x a = b ?x { stop 1 } else { if ?x in bb* { if ?x = a { stop 1 } else { } } else { } }")
