@@ -88,8 +88,9 @@ def block_guesses(book, letters, lot):
         ends = [shape.ends for shape in shapes]
         powers = block_deeds(rows, book.deeds)
         groups = grouped(powers)
+        placed = placed_couples(powers, groups)
         for classes in class_choices(groups):
-            members = class_members(powers, groups, classes)
+            members = class_members(placed, classes)
             yield block_guess(book, parts, rows, ends, members, powers, lot)
 
 
@@ -166,15 +167,17 @@ def class_choices(groups):
             return
 
 
-def class_members(powers, groups, classes):
+def placed_couples(powers, groups):
+    """The couples (letter, form) by first place, each with its group's number and its place in the group."""
+    places = {couple: (at, place) for at, group in enumerate(groups) for place, couple in enumerate(group)}
+    return [(couple,) + places[couple] for couple in powers]
+
+
+def class_members(placed, classes):
     """The couples of each class in order, the classes by first place, for this choice of a class row for each group."""
-    names = {}
-    for at, group in enumerate(groups):
-        for couple, entry in zip(group, classes[at]):
-            names[couple] = (at, entry)
     members = {}
-    for couple in powers:
-        members.setdefault(names[couple], []).append(couple)
+    for couple, at, place in placed:
+        members.setdefault((at, classes[at][place]), []).append(couple)
     return list(members.values())
 
 

@@ -70,8 +70,8 @@ class Desk:
             saying = check_saying(deed[1], self.letters)
             return (word, saying), self.say(saying)
         if word == "follows":
-            saying = check_saying(deed[1], self.letters)
-            return (word, saying), follows(self.said, saying, self.letters, self.order, room=self.room)
+            told = follows(self.said, deed[1], self.letters, self.order, room=self.room)
+            return (word, check_saying(deed[1], self.letters)), told
         if word == "script":
             script, edit = self.edited(deed[1])
             many = len(ways_of(script))

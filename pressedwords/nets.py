@@ -1,6 +1,7 @@
 """Nets of books: everything that told steps reach from some root books [9.1 to 9.10]."""
 
 from pressedwords.books import Book, is_sequence, is_whole, letter_places, size_bound, unknown_places
+from pressedwords.carries import Carries
 from pressedwords.errors import BadOrder, BadRoom, Ended, NoBook, NotLooked, NotOpen, TooFull
 from pressedwords.stepping import guesses_of, outcome_of
 from pressedwords.steps import told_step
@@ -51,7 +52,8 @@ class Net:
     numbers has the number of each listed book by its key, ways the couple (number, place) that led to a book, or
     None for a root book; empty is the empty book's number, lent has the borrowed numbers. found has for each looked
     number how many outcomes its look has, and the couples (place, number) of those that are books. A look may have
-    very many outcomes, so they are not kept.
+    very many outcomes, so they are not kept; but carried has the couples (place, Carries), of which a paper is made,
+    for each look that was taken in and not read.
     """
 
     def __init__(self, roots, lot, order="first", *, room=300, backward=False, known=()):
@@ -68,6 +70,7 @@ class Net:
         self.empty = None
         self.lent = {}
         self.found = {}
+        self.carried = {}
         fresh = {root.key: root for root in roots if isinstance(root, Book)}
         if len(fresh) > self.room:
             raise TooFull(())
@@ -177,7 +180,7 @@ class Net:
 
     def take_look(self, number):
         """Takes in the look at an open book, whole or not at all."""
-        many, books = self.outcome_books(self.listed[number])
+        many, books, carried = self.outcome_books(self.listed[number])
         fresh = {}
         for place, book in books[::-1] if self.backward else books:
             if book not in self and book.key not in fresh:
@@ -186,20 +189,31 @@ class Net:
             raise TooFull(self.open_books)
         self.put_books([(book, (number, place)) for book, place in fresh.values()])
         self.found[number] = (many, tuple([(place, self.numbers[book.key]) for place, book in books]))
+        self.carried[number] = tuple(carried)
         self.looks += 1
 
     def outcome_books(self, book):
-        """How many outcomes the look at a book has, and couples (place, outcome) for those that are books."""
+        """How many outcomes the look at a book has, and couples (place, outcome) of its books and of its Carries."""
         step = told_step(book)
         lot = self.lot
         books = []
+        carried = []
         many = 0
         for guess in guesses_of(book, step, lot):
             told = outcome_of(guess)
             if isinstance(told, Book):
                 books.append((many, told))
+            elif isinstance(told, Carries):
+                carried.append((many, told))
             many += 1
-        return many, books
+        return many, books, carried
+
+    def carries_at(self, number):
+        """The couples (place, Carries) of a looked book's look."""
+        if number in self.carried:
+            return self.carried[number]
+        _, _, carried = self.outcome_books(self.listed[number])
+        return tuple(carried)
 
     def run(self, steps):
         """Advances until the net has ended, at most so many times, and returns how often."""

@@ -1,9 +1,8 @@
 """Papers: closed lists of books, which show that none of their books can be filled [13.1 to 13.7]."""
 
 from pressedwords.books import Book
-from pressedwords.carries import Carries
 from pressedwords.errors import NotShut, OtherDeeds
-from pressedwords.stepping import guesses_of, outcome_of
+from pressedwords.stepping import guesses_of
 from pressedwords.steps import told_step
 
 
@@ -97,18 +96,13 @@ def closed_list(net, known=None):
     """The paper of a shut net, with what it needs of a known paper."""
     if net.verdict != "shut":
         raise NotShut()
-    paper = Paper(deeds_in(net.lot), [entry_of(net.books[number], net.lot) for number in sorted(net.looked)])
+    paper = Paper(deeds_in(net.lot), [entry_of(net, number) for number in sorted(net.looked)])
     if known is None or known.deeds != paper.deeds or not net.borrowed:
         return paper
     return join_papers(paper, trim_paper([net.books[number] for number in net.borrowed], known, net.lot))
 
 
-def entry_of(book, lot):
-    """The entry of a book whose told step is taken."""
-    step = told_step(book)
-    lots = []
-    for place, guess in enumerate(guesses_of(book, step, lot)):
-        told = outcome_of(guess)
-        if isinstance(told, Carries):
-            lots.append((place, told))
-    return Entry(book, step, tuple(lots))
+def entry_of(net, number):
+    """The entry of a looked book."""
+    book = net.books[number]
+    return Entry(book, told_step(book), net.carries_at(number))

@@ -72,7 +72,7 @@ def due_outcomes(net, number, dues):
     """How many outcomes the look at a book has, and a dict of those that are books; dues keeps what was worked out."""
     if number not in dues:
         book = net.books[number]
-        many, couples = net.outcome_books(book) if book.rows else (0, [])
+        many, couples, _ = net.outcome_books(book) if book.rows else (0, [], [])
         dues[number] = (many, dict(couples))
     return dues[number]
 

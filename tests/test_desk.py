@@ -474,6 +474,8 @@ class FollowsTest(DeskTest):
         for _ in range(19):
             deep = ("not", deep)
         self.assertEqual(self.refused(BadSaying, desk, ("follows", deep)), ("deep",))
+        self.assertEqual(self.refused(BadSaying, desk, ("follows", ("and", deep[1], None))), ("deep",))
+        self.assertEqual(self.refused(BadSaying, desk, ("say", ("and", deep[1], None))), ("saying",))
         desk = desk_with(*["not [ ?x = a ]"] * 3)
         self.assertEqual(self.refused(TooWide, desk, ("follows", say("?x = a"))), ("cases",))
         desk = desk_with("?x ?y = ?y ?x", room=2)

@@ -7,6 +7,7 @@ from pressedwords.carries import Carries, whole
 from pressedwords.errors import NotShut, OtherDeeds
 from pressedwords.judging import judge_list
 from pressedwords.nets import Net
+from pressedwords.nettext import net_text, read_net
 from pressedwords.papers import Entry, Paper, Shut, closed_list, join_papers, trim_paper
 from pressedwords.stepping import guesses_of
 from pressedwords.steps import told_step
@@ -121,6 +122,11 @@ class ClosedListTest(unittest.TestCase):
             net.forget(number)
         net.run(5)
         self.assertEqual(closed_list(net), paper)
+
+    def test_nets_that_were_read(self):
+        for lot, row, _, _ in SHUT:
+            net = net_for(lot, row, order="last")
+            self.assertEqual(closed_list(read_net(net_text(net), lot)), closed_list(net))
 
     def test_known_papers(self):
         for lot, row, many, _ in SHUT:
