@@ -83,15 +83,65 @@ def block_guesses(book, letters, lot):
     """The guesses of the block step with these block letters."""
     choices = [shapes_of(book, unknown, letters, lot) for unknown in range(len(book.ends))]
     for shapes in combined(choices):
-        parts, many = formed_parts(shapes)
-        rows = [tuple([blocked_side(opened_side(side, parts), letters, many) for side in row]) for row in book.rows]
-        ends = [shape.ends for shape in shapes]
+        blocked = Blocked(book, shapes, letters, lot)
+        factor_rows = blocked.factor_rows
+        for classes in class_choices(factor_rows):
+            yield blocked.guess(classes)
+
+
+class Blocked:
+    """The opened rows of one choice of shapes, and what all guesses of this choice share.
+
+    The unlike couples (letter, form) of the blocks are listed by first place; others are the signs that are no blocks.
+    A slot is the place of a couple in the list, or, behind these, that of a sign among the others. Places among all
+    groups go on from one group to the next; homes has for each couple its own and that of the first one of its group.
+    """
+
+    def __init__(self, book, shapes, letters, lot):
+        self.book = book
+        self.lot = lot
+        self.parts, many = formed_parts(shapes)
+        self.ends = [shape.ends for shape in shapes]
+        rows = [[blocked_side(opened_side(side, self.parts), letters, many) for side in row] for row in book.rows]
         powers = block_deeds(rows, book.deeds)
-        groups = grouped(powers)
-        placed = placed_couples(powers, groups)
-        for classes in class_choices(groups):
-            members = class_members(placed, classes)
-            yield block_guess(book, parts, rows, ends, members, powers, lot)
+        self.couples = list(powers)
+        self.powers = list(powers.values())
+        self.others = sorted(set([sign for row in rows for side in row for sign, form in side if form is None]))
+        slots = {couple: slot for slot, couple in enumerate(self.couples + [(sign, None) for sign in self.others])}
+        self.rows = [tuple([tuple([slots[couple] for couple in side]) for side in row]) for row in rows]
+        homes = {}
+        self.factor_rows = []
+        for group in grouped(powers):
+            begin = len(homes)
+            for couple in group:
+                homes[couple] = (len(homes), begin)
+            self.factor_rows.append([couple[1][1] for couple in group])
+        self.homes = [homes[couple] for couple in self.couples]
+        self.gaps = {}
+
+    def guess(self, classes):
+        """The guess for this choice of a class row for each group."""
+        entries = [entry for row in classes for entry in row]
+        # Classes of unlike groups have unlike names, since a group has no more classes than couples.
+        names = [entries[place] + begin for place, begin in self.homes]
+        members = {}
+        for slot, name in enumerate(names):
+            members.setdefault(name, []).append(slot)
+        numbers = {name: number for number, name in enumerate(members, start=len(self.book.deeds))}
+        signs = [numbers[name] for name in names] + self.others
+        pressed = [tuple([tuple([signs[slot] for slot in side]) for side in row]) for row in self.rows]
+        classed = list(members.values())
+        firsts = [slots[0] for slots in classed]
+        news = tuple([("row",) + self.couples[slot] for slot in firsts])
+        deeds = self.book.deeds + tuple([self.powers[slot] for slot in firsts])
+        equations = tuple([self.gap(slot, slots[0]) for slots in classed for slot in slots[1:]])
+        return told_guess(self.parts, news, pressed, deeds, self.ends, equations, self.lot)
+
+    def gap(self, slot, first):
+        """The gap between the forms of two couples; many guesses ask for the same one."""
+        if (slot, first) not in self.gaps:
+            self.gaps[(slot, first)] = form_gap(self.couples[slot][1], self.couples[first][1])
+        return self.gaps[(slot, first)]
 
 
 def formed_parts(shapes):
@@ -150,9 +200,8 @@ def grouped(powers):
     return [groups[name] for name in sorted(groups, key=lambda group: group[0])]
 
 
-def class_choices(groups):
+def class_choices(factor_rows):
     """All choices of a class row for each group, those of the last group changing fastest."""
-    factor_rows = [[couple[1][1] for couple in group] for group in groups]
     rows = [least_class_row((), factors) for factors in factor_rows]
     while True:
         yield tuple(rows)
@@ -165,31 +214,3 @@ def class_choices(groups):
             at -= 1
         if at < 0:
             return
-
-
-def placed_couples(powers, groups):
-    """The couples (letter, form) by first place, each with its group's number and its place in the group."""
-    places = {couple: (at, place) for at, group in enumerate(groups) for place, couple in enumerate(group)}
-    return [(couple,) + places[couple] for couple in powers]
-
-
-def class_members(placed, classes):
-    """The couples of each class in order, the classes by first place, for this choice of a class row for each group."""
-    members = {}
-    for couple, at, place in placed:
-        members.setdefault((at, classes[at][place]), []).append(couple)
-    return list(members.values())
-
-
-def block_guess(book, parts, rows, ends, members, powers, lot):
-    """The guess in which members are the couples (letter, form) of each class."""
-    signs = {}
-    for number, couples in enumerate(members, start=len(book.deeds)):
-        for couple in couples:
-            signs[couple] = number
-    # What is no block is a sign with None beside it, and stays.
-    pressed = [tuple([tuple([signs.get(couple, couple[0]) for couple in side]) for side in row]) for row in rows]
-    news = tuple([("row", couples[0][0], couples[0][1]) for couples in members])
-    deeds = book.deeds + tuple([powers[couples[0]] for couples in members])
-    equations = tuple([form_gap(form, couples[0][1]) for couples in members for _, form in couples[1:]])
-    return told_guess(parts, news, pressed, deeds, ends, equations, lot)
