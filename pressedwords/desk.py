@@ -142,10 +142,12 @@ class Desk:
 
     def begun(self):
         """A Solving of what is said, with the known paper."""
-        # The errors of the cases come ahead of those of the lot.
-        cases_of(self.said, self.letters)
-        _, lot = lot_for(self.said, self.letters)
-        known = self.paper_for(deeds_in(lot))
+        known = None
+        if self.known:
+            # The errors of the cases come ahead of those of the lot.
+            cases_of(self.said, self.letters)
+            _, lot = lot_for(self.said, self.letters)
+            known = self.paper_for(deeds_in(lot))
         return Solving(self.said, self.letters, self.order, room=self.room, known=known)
 
     def solve_on(self, steps):

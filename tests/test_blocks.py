@@ -8,7 +8,7 @@ from pressedwords.books import Book, Clash
 from pressedwords.carries import Carries, whole
 from pressedwords.deeds import deed_times
 from pressedwords.forms import form_value, length_choices
-from pressedwords.guesses import Guess
+from pressedwords.guesses import Guess, opened_side
 from pressedwords.settling import start_of
 from tests.helpers import check_result, holds_list, lot_for
 from tests.meaning import Meaning, filled_length, written_out
@@ -248,6 +248,16 @@ class GuessesTest(unittest.TestCase):
             for letter, old in enumerate(guess.letters):
                 self.assertGreaterEqual(old, 1)
                 self.assertEqual(guess.told.deeds[letter], deed_times(a, guess.news[old - 1][2][0]))
+
+    def test_blocks_of_unlike_letters_never_share_a_letter(self):
+        book = plain_book(((0, 0, 1, 1, -1), (-1, 1, 1, 0, 0)))
+        met = 0
+        for guess in guessed(book, (0, 1)):
+            self.check_classes(book, guess, (0, 1), ONE)
+            blocked = {sign for row in book.rows for side in row for sign, _ in opened_side(side, guess.parts) if sign >= 0}
+            self.assertEqual({letter for _, letter, _ in guess.news}, blocked)
+            met = max(met, len(guess.news))
+        self.assertEqual(met, 5)
 
     def test_guesses_whose_equations_have_no_answer_are_yielded(self):
         book = plain_book(((0, 0, -1), (-1, 0)))

@@ -253,8 +253,16 @@ class SolveTest(DeskTest):
         lots = ["?x in (...)*a..", "?x in (.....)*", "?y in (aab)*b*a"]
         desk = desk_with(*lots)
         self.assertEqual(self.refused(TooMany, desk, ("solve", 1)), ())
-        desk = desk_with(*lots, *["not [ ?x = a ]"] * 4)
-        self.assertEqual(self.refused(TooWide, desk, ("solve", 1)), ("cases",))
+        for known in ("a = b", "?x = ?x"):
+            desk = desk_with(known)
+            desk.do_deed(("solve", 1))
+            desk.do_deed(("back",))
+            for text in lots:
+                desk.do_deed(("say", say(text)))
+            self.assertEqual(self.refused(TooMany, desk, ("solve", 1)), ())
+            for _ in range(4):
+                desk.do_deed(("say", say("not [ ?x = a ]")))
+            self.assertEqual(self.refused(TooWide, desk, ("solve", 1)), ("cases",))
 
     def test_too_full_at_the_making(self):
         desk = desk_with("?x ?y = ?y ?x", "?z a = a ?z", room=1)

@@ -206,6 +206,13 @@ class TruthTest(unittest.TestCase):
                             ("?x a b a b in (ababab)*", (BIG // 4 + 2) % 3 == 0)):
             self.assertIs(saying_true(filling, say(text)), truth, text)
 
+    def test_rows_of_each_length(self):
+        for many in range(1, 70):
+            filling = Filling(Grammar((("text", "ab"), ("row", 0, many))), [("?x", (1,))])
+            for text in ("(ababab)*", "(abababab)*", "ab(ababababab)*"):
+                saying = say("?x in " + text)
+                self.assertIs(saying_true(filling, saying), saying_holds(saying, {"?x": "ab" * many}), (many, text))
+
     def test_deep_grammars(self):
         rules = [("text", "ab")] + [("pair", at, at) for at in range(195)] + [("row", 195, 3)]
         rules += [("pair", 196, at) for at in range(100)]
