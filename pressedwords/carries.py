@@ -94,7 +94,7 @@ def moves_of(system):
                 row = figures + (figure,)
                 if key not in grown or row < grown[key]:
                     grown[key] = row
-        least = grown
+        least = {sums: grown[sums] for sums in grown}
     moves = {}
     for figures, sums in sorted([(least[sums], sums) for sums in least]):
         moves.setdefault(parities(sums), []).append((figures, sums))

@@ -119,11 +119,12 @@ def symbol_times(grammar, word):
     for symbol in range(len(times) - 1, -1, -1):
         rule = grammar.rules[symbol]
         many = times[symbol]
+        # Sums are written out, since `+=` may not take what comes from the very list that it changes.
         if rule[0] == "pair":
-            times[rule[1]] += many
-            times[rule[2]] += many
+            times[rule[1]] = times[rule[1]] + many
+            times[rule[2]] = times[rule[2]] + many
         elif rule[0] == "row":
-            times[rule[1]] += many * rule[2]
+            times[rule[1]] = times[rule[1]] + many * rule[2]
     return times
 
 

@@ -160,7 +160,7 @@ class Press:
                 given[number] = head + [(-1 - number, 1)] + tail
                 live.append(number)
             self.rows[number] = items
-        self.live = live
+        self.live = list(live)
 
     def pressed_row(self, items, sides):
         """The items with a sign of the table for whatever is pressed."""
@@ -181,13 +181,14 @@ class Press:
         often = [0] * self.many + [1] * (len(self.rows) - self.many)
         for number in self.live[::-1]:
             copies = often[number]
+            # Sums are written out, since `+=` may not take what comes from the very list that it changes.
             for what, many in self.rows[number]:
                 if isinstance(what, tuple):
                     for other, _ in what:
                         if other < 0:
-                            often[-1 - other] += copies * many
+                            often[-1 - other] = often[-1 - other] + copies * many
                 elif what < 0:
-                    often[-1 - what] += copies
+                    often[-1 - what] = often[-1 - what] + copies
         return often
 
     def sides_of(self, edges, written):

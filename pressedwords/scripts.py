@@ -184,7 +184,7 @@ def courses_of(block):
                 grown.append((steps, stopped))
             else:
                 grown.extend([(steps + more, over) for more, over in courses_over(statement)])
-        courses = grown
+        courses = list(grown)
     return courses
 
 

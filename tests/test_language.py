@@ -19,6 +19,9 @@ BARRED_WORDS = set("""type typing typing_extensions enum Enum IntEnum StrEnum Fl
 SPECIAL = set("__init__ __eq__ __repr__ __str__ __len__ __iter__ __contains__".split())
 STATEMENTS = (ast.Assign, ast.AugAssign, ast.If, ast.While, ast.For, ast.Return, ast.Break, ast.Continue, ast.Pass,
               ast.Raise, ast.Try, ast.Expr, ast.FunctionDef, ast.Assert, ast.Delete)
+CHANGING = set("append clear extend insert pop remove reverse setdefault sort update".split())
+WALKING = ("enumerate", "zip", "reversed")
+VIEWS = ("items", "keys", "values")
 
 
 def files():
@@ -42,6 +45,142 @@ def bound_names(function):
     used = [node for node in ast.walk(function) if isinstance(node, ast.Name)]
     names |= {node.id for node in used if not isinstance(node.ctx, ast.Load)}
     return names | {node.name for node in ast.walk(function) if isinstance(node, ast.ExceptHandler) and node.name}
+
+
+def held(node):
+    """The names, fields and items of which an expression is one itself; a copy, a sum or a call is none."""
+    if isinstance(node, ast.IfExp):
+        return held(node.body) + held(node.orelse)
+    if isinstance(node, ast.BoolOp):
+        return [part for choice in node.values for part in held(choice)]
+    if isinstance(node, ast.Subscript) and isinstance(node.slice, ast.Slice):
+        return []
+    return [node] if isinstance(node, (ast.Name, ast.Attribute, ast.Subscript)) else []
+
+
+def walked(node):
+    """The names, fields and items that a loop over an expression walks itself."""
+    if isinstance(node, ast.Call) and getattr(node.func, "id", None) in WALKING:
+        return [part for given in node.args for part in walked(given)]
+    if isinstance(node, ast.Call) and getattr(node.func, "attr", None) in VIEWS:
+        return walked(node.func.value)
+    if isinstance(node, (ast.IfExp, ast.BoolOp)):
+        choices = [node.body, node.orelse] if isinstance(node, ast.IfExp) else node.values
+        return [part for choice in choices for part in walked(choice)]
+    return held(node)
+
+
+def container(node):
+    """The text of a name, or of the field or name of which an expression is an item."""
+    while isinstance(node, ast.Subscript):
+        node = node.value
+    return ast.unparse(node)
+
+
+def loops(tree):
+    """For each loop and comprehension what is walked and the nodes in which it may be changed."""
+    found = []
+    for node in ast.walk(tree):
+        if isinstance(node, ast.For):
+            found.append((node.target, walked(node.iter), [part for row in node.body for part in ast.walk(row)]))
+        for inner in getattr(node, "generators", []):
+            found.append((inner.target, walked(inner.iter), list(ast.walk(node))))
+    return found
+
+
+def bindings(function):
+    """Couples of a target of an assignment and what is assigned."""
+    found = []
+    for node in ast.walk(function):
+        if isinstance(node, ast.Assign):
+            for target in node.targets:
+                if isinstance(target, ast.Tuple) and isinstance(node.value, ast.Tuple):
+                    found.extend(zip(target.elts, node.value.elts))
+                else:
+                    found.append((target, node.value))
+    return found
+
+
+def joined_texts(couples):
+    """For each text the set of all those to which the couples lead from it, one after another."""
+    homes = {}
+    for one, other in couples:
+        both = homes.get(one, {one}) | homes.get(other, {other})
+        for text in both:
+            homes[text] = both
+    return homes
+
+
+def same_things(function):
+    """For each text those that may name the very same thing somewhere in a function."""
+    return joined_texts([(ast.unparse(target), ast.unparse(part)) for target, value in bindings(function)
+                         if not isinstance(target, ast.Tuple) for part in held(value)])
+
+
+def same_containers(function):
+    """For each text those that may name the same thing, an item of it, or what it is an item of."""
+    taken = [(target, part) for target, value in bindings(function) for part in held(value)]
+    taken += [(target, part) for target, parts, _ in loops(function) for part in parts]
+    couples = []
+    for target, part in taken:
+        names = [node for node in ast.walk(target) if isinstance(node, ast.Name)]
+        for name in names if isinstance(target, ast.Tuple) else [target]:
+            couples.append((container(name), container(part)))
+    return joined_texts(couples)
+
+
+def added_from_itself(tree):
+    """The lines of what is changed by `+=` and the like, extend or update, and named in what this takes.
+
+    A name that is assigned an item counts as the item. In a new list that extend is handed, it may stand as a part.
+    """
+    lines = set()
+    for function in functions(tree):
+        homes = same_containers(function)
+        for node in ast.walk(function):
+            if isinstance(node, ast.AugAssign):
+                changed = container(node.target)
+                named = texts_in([node.value])
+            elif isinstance(node, ast.Call) and getattr(node.func, "attr", None) in ("extend", "update"):
+                changed = container(node.func.value)
+                inner = [part.iter for given in node.args for part in getattr(given, "generators", [])]
+                named = {container(part) for given in node.args + inner for part in walked(given)}
+                named |= {changed} & texts_in(node.args)
+            else:
+                continue
+            if homes.get(changed, {changed}) & named:
+                lines.add(node.lineno)
+    return sorted(lines)
+
+
+def texts_in(nodes):
+    """The texts of all expressions in some nodes."""
+    return {ast.unparse(part) for node in nodes for part in ast.walk(node) if isinstance(part, ast.expr)}
+
+
+def changed_things(node):
+    """The names, fields and items that a node changes, itself alone."""
+    if isinstance(node, ast.Call) and isinstance(node.func, ast.Attribute) and node.func.attr in CHANGING:
+        return [node.func.value]
+    if isinstance(node, ast.AugAssign):
+        return [node.target] + [part.value for part in [node.target] if isinstance(part, ast.Subscript)]
+    if isinstance(node, (ast.Assign, ast.Delete)):
+        targets = [part for target in node.targets for part in getattr(target, "elts", [target])]
+        return [target.value for target in targets if isinstance(target, ast.Subscript)]
+    return []
+
+
+def changed_while_walked(tree):
+    """The lines on which a loop or a comprehension changes what it walks, by whatever name."""
+    lines = set()
+    for function in functions(tree):
+        homes = same_things(function)
+        for _, parts, inside in loops(function):
+            texts = {text for part in parts for text in homes.get(ast.unparse(part), {ast.unparse(part)})}
+            for node in inside:
+                if texts & {ast.unparse(thing) for thing in changed_things(node)}:
+                    lines.add(node.lineno)
+    return sorted(lines)
 
 
 class LanguageTest(unittest.TestCase):
@@ -178,18 +317,14 @@ class LanguageTest(unittest.TestCase):
                         self.assertIsInstance(part, (ast.Name, ast.Attribute, ast.Constant), place)
 
     def test_nothing_is_added_to_what_it_comes_from(self):
-        # L5 Iteration, L23: what `+=` and the like change is not named in what they take.
-        for place, node in self.nodes(ast.AugAssign):
-            changed = node.target
-            while isinstance(changed, (ast.Subscript, ast.Attribute)):
-                changed = changed.value
-            names = [part.id for part in ast.walk(node.value) if isinstance(part, ast.Name)]
-            self.assertNotIn(changed.id, names, place)
-        for place, node in self.nodes(ast.Call):
-            if isinstance(node.func, ast.Attribute) and node.func.attr in ("extend", "update"):
-                changed = ast.unparse(node.func.value)
-                named = [ast.unparse(part) for given in node.args for part in ast.walk(given) if isinstance(part, ast.expr)]
-                self.assertNotIn(changed, named, place)
+        # L5 Iteration, L23: what `+=` and the like change is not named in what they take, nor is an item of it.
+        for path, tree in self.trees.items():
+            self.assertEqual(added_from_itself(tree), [], path.name)
+
+    def test_nothing_is_changed_while_it_is_walked(self):
+        # L5 Iteration, L23: what a loop walks is not changed in it, neither by its name nor by another one.
+        for path, tree in self.trees.items():
+            self.assertEqual(changed_while_walked(tree), [], path.name)
 
     def test_comparisons_by_is(self):
         for place, node in self.nodes(ast.Compare):
@@ -210,6 +345,74 @@ class LanguageTest(unittest.TestCase):
             kinds = node.type.elts if isinstance(node.type, ast.Tuple) else [node.type]
             for kind in kinds:
                 self.assertIn(kind.id, own, place)
+
+
+def function_of(rows):
+    """A function of these rows, which begin on line 2."""
+    return ast.parse("def told(xs, ys, k):\n" + "".join(["    " + row + "\n" for row in rows]))
+
+
+class FindingTest(unittest.TestCase):
+    """The finding of rows against L5 Iteration and L23 by itself."""
+
+    def test_what_is_added_to_itself(self):
+        for rows, lines in [
+                (["many = xs[k]", "xs[0] += many"], [3]),
+                (["many = xs[k]", "xs[0] += many * 2"], [3]),
+                (["many = xs[k] if k else 0", "more = many", "xs[0] -= more"], [4]),
+                (["first, last = xs[k]", "xs[0] += last"], [3]),
+                (["for x in xs:", "    xs[0] += x"], [3]),
+                (["xs[0] += xs[k]"], [2]),
+                (["self.rows[k] += self.rows[0]"], [2]),
+                (["row = self.rows[k]", "self.rows.extend(row)"], [3]),
+                (["row = xs[k]", "xs.extend([x + 1 for x in row[1]])"], [3]),
+                (["xs.extend(xs)", "xs.extend([x for x in xs])", "xs.update(ys)"], [2, 3])]:
+            with self.subTest(rows=rows):
+                self.assertEqual(added_from_itself(function_of(rows)), lines)
+
+    def test_what_is_not_added_to_itself(self):
+        for rows in [
+                ["many = xs[k]", "xs[0] = xs[0] + many"],
+                ["many = ys[k]", "xs[0] += many"],
+                ["many = xs[k] + 1", "xs[0] += many"],
+                ["many = len(xs)", "many += ys[k]"],
+                ["row = ys[xs.pop()]", "xs.extend([row[2], row[1]])"],
+                ["first, last = xs[k]", "xs.extend([(first, last + y) for y in ys])"],
+                ["for x in ys:", "    xs[x] += 1"],
+                ["self.rows[k] += self.many[k]"]]:
+            with self.subTest(rows=rows):
+                self.assertEqual(added_from_itself(function_of(rows)), [])
+
+    def test_what_is_changed_while_it_is_walked(self):
+        for rows, lines in [
+                (["for k in ys:", "    grown = []", "    for x in xs:", "        grown.append(x)",
+                  "    xs = grown"], [5]),
+                (["for k in ys:", "    grown = {}", "    for x, y in xs.items():", "        grown[x] = y",
+                  "    xs = grown"], [5]),
+                (["more = xs if k else ys", "for x in xs:", "    more.extend([x])"], [4]),
+                (["more = self.rows", "for x in self.rows:", "    del more[0]"], [4]),
+                (["more = xs[k]", "for x in xs[k]:", "    more[0] += 1"], [4]),
+                (["for at, x in enumerate(xs):", "    xs[at] = x + 1"], [3]),
+                (["for x, y in zip(ys, xs):", "    xs.pop()"], [3]),
+                (["for x in xs or ys:", "    ys += [x]"], [3]),
+                (["more = xs", "return [more.pop() for x in xs]"], [3]),
+                (["for x in xs:", "    if x == k:", "        xs.remove(x)", "        return"], [4])]:
+            with self.subTest(rows=rows):
+                self.assertEqual(changed_while_walked(function_of(rows)), lines)
+
+    def test_what_is_not_changed_while_it_is_walked(self):
+        for rows in [
+                ["for k in ys:", "    grown = []", "    for x in xs:", "        grown.append(x)",
+                 "    xs = list(grown)"],
+                ["more = xs[:]", "for x in xs:", "    more.append(x)"],
+                ["more = xs", "for x in list(xs):", "    more.append(x)"],
+                ["more = xs", "for x in xs[::-1]:", "    more.append(x)"],
+                ["more = xs", "for x in ys:", "    more.append(x)"],
+                ["for x in xs:", "    x.append(k)"],
+                ["more = xs", "for x in xs:", "    k = x", "more.append(k)"],
+                ["for x in self.rows:", "    self.many.append(x)"]]:
+            with self.subTest(rows=rows):
+                self.assertEqual(changed_while_walked(function_of(rows)), [])
 
 
 if __name__ == "__main__":
